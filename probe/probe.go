@@ -1,0 +1,44 @@
+// Package probe has what the tests of several layers share: texts to try, and memory to write over. No layer calls it.
+package probe
+
+import "iter"
+
+// Texts gives all texts of at most most bytes, each of them one of the alphabet's.
+func Texts(alphabet string, most int) iter.Seq[string] {
+	return func(yield func(string) bool) {
+		grow("", alphabet, most, yield)
+	}
+}
+
+// grow gives s and all that begin with it; false, if no more are asked for.
+func grow(s, alphabet string, most int, yield func(string) bool) bool {
+	if !yield(s) {
+		return false
+	}
+	if len(s) >= most {
+		return true
+	}
+	for i := range len(alphabet) {
+		if !grow(s+alphabet[i:i+1], alphabet, most, yield) {
+			return false
+		}
+	}
+	return true
+}
+
+// Spare is what Roomy puts into the spare room.
+const Spare = "spare room"
+
+// Roomy gives the bytes of a text with spare room behind them, and the bytes with that room.
+func Roomy(s string) (b, all []byte) {
+	all = []byte(s + Spare)
+	return all[:len(s)], all
+}
+
+// Spoil writes over a list of bytes, and over its spare room.
+func Spoil(b []byte) {
+	b = b[:cap(b)]
+	for i := range b {
+		b[i] = 0xaa // always the same: turning bits would mend what is met twice
+	}
+}

@@ -42,3 +42,13 @@ func Spoil(b []byte) {
 		b[i] = 0xaa // always the same: turning bits would mend what is met twice
 	}
 }
+
+// Bytes gives n bytes in no order to be seen, the same ones for the same seed.
+func Bytes(seed uint64, n int) []byte {
+	b := make([]byte, n)
+	for i := range b {
+		seed = seed*6364136223846793005 + 1442695040888963407
+		b[i] = byte(seed >> 56)
+	}
+	return b
+}

@@ -37,3 +37,22 @@ func TestSpoil(t *testing.T) {
 		}
 	}
 }
+
+// TestBytes: as many as are asked for, the same ones for a seed, others for another, and each byte among them.
+func TestBytes(t *testing.T) {
+	for _, n := range []int{0, 1, 100} {
+		if a, b := probe.Bytes(7, n), probe.Bytes(7, n); len(a) != n || !slices.Equal(a, b) {
+			t.Errorf("%d: %v, %v", n, a, b)
+		}
+	}
+	if slices.Equal(probe.Bytes(7, 100), probe.Bytes(8, 100)) {
+		t.Error("two seeds give the same")
+	}
+	met := map[byte]int{}
+	for _, c := range probe.Bytes(7, 10000) {
+		met[c]++
+	}
+	if len(met) != 256 {
+		t.Errorf("%d bytes were met", len(met))
+	}
+}

@@ -6,6 +6,7 @@ import (
 	"crypto/sha256"
 	"encoding/hex"
 	"math"
+	"reflect"
 	"strings"
 	"testing"
 	"unsafe"
@@ -236,15 +237,7 @@ func answers(s string) [6]any {
 // TestAnyArguments: P1 and P2, each call ends, without a panic, and answers the same in a second run.
 func TestAnyArguments(t *testing.T) {
 	const alphabet, most = "\x00a\x80\xff", 5
-	var first [][6]any
-	for s := range probe.Texts(alphabet, most) {
-		first = append(first, answers(s))
-	}
-	i := 0
-	for s := range probe.Texts(alphabet, most) {
-		if got := answers(s); got != first[i] {
-			t.Fatalf("%q: %v, at first %v", s, got, first[i])
-		}
-		i++
+	if s, parts := probe.Parting(probe.Texts(alphabet, most), answers, reflect.DeepEqual); parts {
+		t.Errorf("%q: two runs part", s)
 	}
 }

@@ -233,15 +233,7 @@ func answers(s string) []any {
 // TestAnyArguments: P1 and P2, each call ends, without a panic, and answers the same in a second run.
 func TestAnyArguments(t *testing.T) {
 	const alphabet, most = "aB/@\x00\xff", 5
-	var first [][]any
-	for s := range probe.Texts(alphabet, most) {
-		first = append(first, answers(s))
-	}
-	i := 0
-	for s := range probe.Texts(alphabet, most) {
-		if a := answers(s); !reflect.DeepEqual(a, first[i]) {
-			t.Fatalf("%q: %v, at first %v", s, a, first[i])
-		}
-		i++
+	if s, parts := probe.Parting(probe.Texts(alphabet, most), answers, reflect.DeepEqual); parts {
+		t.Errorf("%q: two runs part", s)
 	}
 }

@@ -52,3 +52,19 @@ func Bytes(seed uint64, n int) []byte {
 	}
 	return b
 }
+
+// Parting gives the first of the texts to which answers tells something else in a second run than in the first; false, if there is none.
+func Parting[A any](texts iter.Seq[string], answers func(string) A, same func(a, b any) bool) (string, bool) {
+	var first []A
+	for s := range texts {
+		first = append(first, answers(s))
+	}
+	i := 0
+	for s := range texts {
+		if !same(answers(s), first[i]) {
+			return s, true
+		}
+		i++
+	}
+	return "", false
+}

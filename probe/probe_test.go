@@ -1,6 +1,7 @@
 package probe_test
 
 import (
+	"reflect"
 	"slices"
 	"strings"
 	"testing"
@@ -54,5 +55,25 @@ func TestBytes(t *testing.T) {
 	}
 	if len(met) != 256 {
 		t.Errorf("%d bytes were met", len(met))
+	}
+}
+
+// TestParting: what hangs on its text alone parts nowhere, what counts its calls at once, and what changes later where it does.
+func TestParting(t *testing.T) {
+	texts := probe.Texts("ab", 2)
+	if s, parts := probe.Parting(texts, func(s string) []string { return []string{s} }, reflect.DeepEqual); parts || s != "" {
+		t.Errorf("%q, %v", s, parts)
+	}
+	n := 0
+	count := func(string) int {
+		n++
+		return n
+	}
+	if s, parts := probe.Parting(texts, count, reflect.DeepEqual); !parts || s != "" {
+		t.Errorf("%q, %v", s, parts)
+	}
+	n = 0
+	if s, parts := probe.Parting(texts, func(s string) int { return count(s) / 12 }, reflect.DeepEqual); !parts || s != "b" {
+		t.Errorf("%q, %v", s, parts)
 	}
 }

@@ -306,7 +306,8 @@ func TestJoinIsNew(t *testing.T) {
 }
 
 // answers gives all that the calls answer to some bytes, and to numbers made of them.
-func answers(data []byte) []any {
+func answers(s string) []any {
+	data := []byte(s)
 	n := uint64(len(data))
 	fields := []api.Field{}
 	tags := []int{}
@@ -326,15 +327,7 @@ func answers(data []byte) []any {
 // TestAnyArguments: P1 and P2, each call ends, without a panic, and answers the same in a second run.
 func TestAnyArguments(t *testing.T) {
 	const alphabet, most = "\x00\x01\x02\x03\x80\xff", 5
-	var first [][]any
-	for s := range probe.Texts(alphabet, most) {
-		first = append(first, answers([]byte(s)))
-	}
-	i := 0
-	for s := range probe.Texts(alphabet, most) {
-		if a := answers([]byte(s)); !reflect.DeepEqual(a, first[i]) {
-			t.Fatalf("%q: %v, at first %v", s, a, first[i])
-		}
-		i++
+	if s, parts := probe.Parting(probe.Texts(alphabet, most), answers, reflect.DeepEqual); parts {
+		t.Errorf("%q: two runs part", s)
 	}
 }

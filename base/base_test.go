@@ -14,11 +14,7 @@ import (
 	"gangway/probe"
 )
 
-const (
-	longestLife = 1 << 40
-	sixteen     = "abcdefghijklmnop"
-	longest     = sixteen + "/" + sixteen + "/" + sixteen + "@" + sixteen
-)
+const longestLife = 1 << 40
 
 // ann gives an ordinary entry.
 func ann() api.Entry {
@@ -80,7 +76,7 @@ func TestNew(t *testing.T) {
 // rights gives entries that are right, at the edges of it.
 func rights() []api.Entry {
 	var all []api.Entry
-	for _, name := range []string{"ann@LAND", "host/s1@LAND", "a@R", "-/./_@+", longest} {
+	for _, name := range probe.Names() {
 		e := ann()
 		e.Name = name
 		all = append(all, e)
@@ -101,10 +97,7 @@ func rights() []api.Entry {
 // wrongs gives entries that aren't right.
 func wrongs() []api.Entry {
 	all := []api.Entry{{}}
-	for _, name := range []string{
-		"", "ann", "@LAND", "ann@", "ann@LAND@x", "ann@LAND ", "/@LAND", "ann/@LAND", "a/b/c/d@R", "ann\x00@LAND", "ä@LAND",
-		sixteen + "q@R", "a@" + sixteen + "q", strings.Repeat("a", 70000) + "@R",
-	} {
+	for _, name := range probe.NotNames() {
 		e := ann()
 		e.Name = name
 		all = append(all, e)

@@ -1,7 +1,6 @@
 package cache_test
 
 import (
-	"bytes"
 	"math"
 	"reflect"
 	"slices"
@@ -15,17 +14,7 @@ import (
 	"gangway/probe"
 )
 
-const (
-	last    = 1 << 40 // the greatest time
-	sixteen = "abcdefghijklmnop"
-	longest = sixteen + "/" + sixteen + "/" + sixteen + "@" + sixteen
-)
-
-// notNames are texts that are none of a right name.
-var notNames = []string{
-	"", "ann", "@LAND", "ann@", "ann@LAND@x", "ann@LAND ", "/@LAND", "ann/@LAND", "a/b/c/d@R", "ann\x00@LAND", "ä@LAND",
-	sixteen + "q@R", "a@" + sixteen + "q", strings.Repeat("a", 70000) + "@R",
-}
+const last = 1 << 40 // the greatest time
 
 // cred gives an ordinary ticket for a server, till a time.
 func cred(server string, end int64) api.Cred {
@@ -38,11 +27,6 @@ func cred(server string, end int64) api.Cred {
 // host gives the name of a server with a number; they rise with it up to 89.
 func host(n int) string { return "host/s" + strconv.Itoa(10+n) + "@LAND" }
 
-// same tells whether two tickets are one; a nil list is one without elements.
-func same(a, b api.Cred) bool {
-	return a.Client == b.Client && bytes.Equal(a.Ticket, b.Ticket) && a.Grant == b.Grant
-}
-
 // puts looks whether Put answers this.
 func puts(t *testing.T, c *cache.Cache, x api.Cred, now int64, want api.Errno) {
 	t.Helper()
@@ -54,7 +38,7 @@ func puts(t *testing.T, c *cache.Cache, x api.Cred, now int64, want api.Errno) {
 // finds looks whether Find gives just this ticket at a time.
 func finds(t *testing.T, c *cache.Cache, want api.Cred, now int64) {
 	t.Helper()
-	if got, ok := c.Find(want.Grant.Server, now); !ok || !same(got, want) {
+	if got, ok := c.Find(want.Grant.Server, now); !ok || !probe.SameCred(got, want) {
 		t.Errorf("%+v, %v, not %+v, at %d", got, ok, want, now)
 	}
 }
@@ -108,7 +92,7 @@ func TestExample(t *testing.T) {
 // rights gives tickets that are right, at the edges of it.
 func rights() []api.Cred {
 	all := []api.Cred{{Client: "ann@LAND", Grant: api.Grant{Server: "host/s1@LAND"}}}
-	for _, n := range []string{"ann@LAND", "host/s1@LAND", "a@R", "-/./_@+", longest} {
+	for _, n := range probe.Names() {
 		x, y := cred("host/s1@LAND", 10), cred(n, 10)
 		x.Client = n
 		all = append(all, x, y)
@@ -134,7 +118,7 @@ func rights() []api.Cred {
 // wrongs gives tickets that aren't right.
 func wrongs() []api.Cred {
 	all := []api.Cred{{}, {Client: "ann@LAND"}, {Grant: api.Grant{Server: "host/s1@LAND"}}}
-	for _, n := range notNames {
+	for _, n := range probe.NotNames() {
 		x, y := cred("host/s1@LAND", 10), cred(n, 10)
 		x.Client = n
 		all = append(all, x, y)
@@ -371,7 +355,7 @@ func TestNothingIsKept(t *testing.T) {
 		box, all := probe.Roomy(string(want.Ticket))
 		x.Client, x.Ticket, x.Grant.Server = strings.Clone(want.Client), box, strings.Clone(want.Grant.Server)
 		puts(t, c, x, 0, api.OK)
-		if !same(x, want) || string(all) != string(want.Ticket)+probe.Spare {
+		if !probe.SameCred(x, want) || string(all) != string(want.Ticket)+probe.Spare {
 			t.Errorf("%+v, %q", x, all)
 		}
 		spoil(x)
@@ -386,7 +370,7 @@ func TestAnswersAreNew(t *testing.T) {
 		one, _ := c.Find(host(n), 50)
 		two, _ := c.Find(host(n), 50)
 		spoil(one)
-		if !same(two, x) {
+		if !probe.SameCred(two, x) {
 			t.Errorf("answers share memory: %+v", two)
 		}
 		finds(t, c, x, 50)

@@ -2,7 +2,6 @@ package kdc_test
 
 import (
 	"bytes"
-	"errors"
 	"fmt"
 	"math"
 	"reflect"
@@ -116,23 +115,11 @@ func sealed(t *testing.T, s *seal.Sealer, key api.Key, use int, plain []byte) []
 	return box
 }
 
-// same tells whether two messages are one; nil and empty are.
-func same(a, b api.Krb) bool {
-	if !bytes.Equal(a.Ticket, b.Ticket) || !bytes.Equal(a.Sealed, b.Sealed) {
-		return false
-	}
-	a.Ticket, a.Sealed, b.Ticket, b.Sealed = nil, nil, nil, nil
-	return reflect.DeepEqual(a, b)
-}
-
 // alike looks whether two sealers have drawn and sealed as often; it seals by both.
 func alike(t *testing.T, s, twin *seal.Sealer) {
 	t.Helper()
-	if s.Drawn() != twin.Drawn() || !reflect.DeepEqual(s.Terms(), twin.Terms()) {
+	if !probe.Alike(s, twin) {
 		t.Errorf("%d drawn, not %d; sealed %+v, not %+v", s.Drawn(), twin.Drawn(), s.Terms(), twin.Terms())
-	}
-	if one, two := sealed(t, s, api.Key{}, 0, nil), sealed(t, twin, api.Key{}, 0, nil); !bytes.Equal(one, two) {
-		t.Errorf("the next box is %x, not %x", one, two)
 	}
 }
 
@@ -158,13 +145,13 @@ func (a asking) gives(t *testing.T, x api.Ticket, key, grantKey api.Key) {
 		a.pose(t, twin)
 		want := answer(t, twin, x, key, grantKey, a.m.Nonce)
 		k, m := a.pose(t, s)
-		if got, err := k.Handle(m, a.now); err != nil || !same(got, want) {
+		if got, err := k.Handle(m, a.now); err != nil || !probe.SameKrb(got, want) {
 			t.Errorf("%+v at %d: %+v, %v, not %+v", m, a.now, got, err, want)
 		} else if e := krb.Check(got); e != api.OK {
 			t.Errorf("%+v: %v", got, e)
 		}
 		k, m = a.pose(t, other)
-		if got := k.Answer(m, a.now); !same(got, want) {
+		if got := k.Answer(m, a.now); !probe.SameKrb(got, want) {
 			t.Errorf("%+v at %d: Answer: %+v, not %+v", m, a.now, got, want)
 		}
 		alike(t, s, other)
@@ -176,13 +163,8 @@ func (a asking) gives(t *testing.T, x api.Ticket, key, grantKey api.Key) {
 // isFault looks whether an error is just a number at a place.
 func isFault(t *testing.T, err error, at string, why api.Errno) {
 	t.Helper()
-	f, ok := err.(*api.Fault)
-	if !ok || f == nil || f.At != at || f.Why != error(why) {
+	if !probe.IsFault(err, at, why) {
 		t.Errorf("%#v, not %v at %s", err, why, at)
-	}
-	var e api.Errno
-	if !errors.Is(err, why) || !errors.As(err, &e) || e != why {
-		t.Errorf("%v isn't found in %#v", why, err)
 	}
 }
 
@@ -195,11 +177,11 @@ func (a asking) refuses(t *testing.T, at string, why api.Errno) {
 		k, m := a.pose(t, s)
 		got, err := k.Handle(m, a.now)
 		isFault(t, err, at, why)
-		if !same(got, api.Krb{}) {
+		if !probe.SameKrb(got, api.Krb{}) {
 			t.Errorf("%+v beside an error", got)
 		}
 		want := api.Krb{Kind: api.KrbError, Nonce: m.Nonce, Code: int(why)}
-		if got := k.Answer(m, a.now); !same(got, want) {
+		if got := k.Answer(m, a.now); !probe.SameKrb(got, want) {
 			t.Errorf("Answer: %+v, not %+v", got, want)
 		}
 		alike(t, s, twin)
@@ -520,7 +502,7 @@ func TestSharedBase(t *testing.T) {
 	}
 	first, err1 := one.Handle(m, 1000)
 	second, err2 := two.Handle(m, 1000)
-	if err1 != nil || err2 != nil || same(first, second) || s.Drawn() != 2 {
+	if err1 != nil || err2 != nil || probe.SameKrb(first, second) || s.Drawn() != 2 {
 		t.Errorf("%+v, %v; %+v, %v", first, err1, second, err2)
 	}
 	b.Drop("ann@LAND")
@@ -572,7 +554,7 @@ func TestAnswerForm(t *testing.T) {
 	for _, nonce := range []uint64{0, 5, math.MaxUint64} {
 		for _, kind := range []int{-1, 0, 1, 2, 3, 7, 8} {
 			m := api.Krb{Kind: kind, Nonce: nonce, Client: "no name", Code: 5000, Ticket: make([]byte, 4000)}
-			if got := k.Answer(m, 1000); !same(got, api.Krb{Kind: 7, Nonce: nonce, Code: 21}) {
+			if got := k.Answer(m, 1000); !probe.SameKrb(got, api.Krb{Kind: 7, Nonce: nonce, Code: 21}) {
 				t.Errorf("%d, %d: %+v", kind, nonce, got)
 			}
 		}
@@ -600,7 +582,7 @@ func TestArgumentsStay(t *testing.T) {
 			}
 			probe.Spoil(m.Ticket)
 			probe.Spoil(m.Sealed)
-			if !same(got, want) {
+			if !probe.SameKrb(got, want) {
 				t.Errorf("%+v, not %+v", got, want)
 			}
 			probe.Spoil(got.Ticket)

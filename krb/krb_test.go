@@ -16,11 +16,7 @@ import (
 	"gangway/probe"
 )
 
-const (
-	last    = 1 << 40 // the greatest time
-	sixteen = "abcdefghijklmnop"
-	longest = sixteen + "/" + sixteen + "/" + sixteen + "@" + sixteen
-)
+const last = 1 << 40 // the greatest time
 
 // has gives the tags of the fields of each kind, but the kind's own.
 var has = map[int][]byte{
@@ -33,30 +29,20 @@ var has = map[int][]byte{
 	7: {34, 39},
 }
 
-// field gives the bytes of a field.
-func field(tag byte, value string) string {
-	return string([]byte{tag, byte(len(value) >> 8), byte(len(value))}) + value
-}
-
-// num gives the bytes of a number.
-func num(n uint64) string {
-	return strings.TrimLeft(string(binary.BigEndian.AppendUint64(nil, n)), "\x00")
-}
-
 // values gives the values of all fields by their tags.
 func values(m api.Krb) map[byte]string {
 	return map[byte]string{
-		31: num(uint64(m.Kind)), 32: m.Client, 33: m.Server, 34: num(m.Nonce), 35: num(uint64(m.End)), 36: num(uint64(m.Flags)),
-		37: string(m.Ticket), 38: string(m.Sealed), 39: num(uint64(m.Code)),
+		31: probe.Num(uint64(m.Kind)), 32: m.Client, 33: m.Server, 34: probe.Num(m.Nonce), 35: probe.Num(uint64(m.End)), 36: probe.Num(uint64(m.Flags)),
+		37: string(m.Ticket), 38: string(m.Sealed), 39: probe.Num(uint64(m.Code)),
 	}
 }
 
 // want gives the bytes of a message.
 func want(m api.Krb) string {
 	v := values(m)
-	all := field(31, v[31])
+	all := probe.Field(31, v[31])
 	for _, tag := range has[m.Kind] {
-		all += field(tag, v[tag])
+		all += probe.Field(tag, v[tag])
 	}
 	return all
 }
@@ -65,15 +51,6 @@ func want(m api.Krb) string {
 func show(m api.Krb) string {
 	s := fmt.Sprintf("%+v", m)
 	return s[:min(len(s), 300)]
-}
-
-// same tells whether two messages are one; nil and empty are.
-func same(a, b api.Krb) bool {
-	if !bytes.Equal(a.Ticket, b.Ticket) || !bytes.Equal(a.Sealed, b.Sealed) {
-		return false
-	}
-	a.Ticket, a.Sealed, b.Ticket, b.Sealed = nil, nil, nil, nil
-	return reflect.DeepEqual(a, b)
 }
 
 // plain gives an ordinary message of each kind, by its number.
@@ -95,7 +72,7 @@ type change func(*api.Krb)
 // rights gives what may be done to a field, by its tag, so that a message that has the field stays right.
 func rights() map[byte][]change {
 	all := map[byte][]change{}
-	for _, n := range []string{"a@R", "ann@LAND", "a/b/c@R", "-/./_@+", longest} {
+	for _, n := range probe.Names() {
 		all[32] = append(all[32], func(m *api.Krb) { m.Client = n })
 		all[33] = append(all[33], func(m *api.Krb) { m.Server = n })
 	}
@@ -121,7 +98,7 @@ func rights() map[byte][]change {
 // wrongs gives what may be done to a field, by its tag, so that no message that has the field is right.
 func wrongs() map[byte][]change {
 	all := map[byte][]change{}
-	for _, n := range []string{"", "ann", "@LAND", "ann@", "ann@LAND@x", "a/b/c/d@R", "ann\x00@LAND", sixteen + "q@R", "a@" + sixteen + "q", strings.Repeat("a", 70000) + "@R"} {
+	for _, n := range probe.NotNames() {
 		all[32] = append(all[32], func(m *api.Krb) { m.Client = n })
 		all[33] = append(all[33], func(m *api.Krb) { m.Server = n })
 	}
@@ -149,7 +126,7 @@ func fills() map[byte][]change {
 			for _, c := range changes {
 				var m api.Krb
 				c(&m)
-				if !same(m, api.Krb{}) {
+				if !probe.SameKrb(m, api.Krb{}) {
 					all[tag] = append(all[tag], c)
 				}
 			}
@@ -168,7 +145,7 @@ func right(t *testing.T, m api.Krb) {
 	if e != api.OK || string(b) != want(m) {
 		t.Errorf("%s: Write: %.200q, %v", show(m), b, e)
 	}
-	if got, e := krb.Read([]byte(want(m))); e != api.OK || !same(got, m) {
+	if got, e := krb.Read([]byte(want(m))); e != api.OK || !probe.SameKrb(got, m) {
 		t.Errorf("%s: Read: %s, %v", show(m), show(got), e)
 	}
 }
@@ -230,7 +207,7 @@ func TestKnown(t *testing.T) {
 		if b, e := krb.Write(m); e != api.OK || string(b) != s {
 			t.Errorf("%+v: %q, %v", m, b, e)
 		}
-		if got, e := krb.Read([]byte(s)); e != api.OK || !same(got, m) {
+		if got, e := krb.Read([]byte(s)); e != api.OK || !probe.SameKrb(got, m) {
 			t.Errorf("%q: %+v, %v", s, got, e)
 		}
 	}
@@ -275,9 +252,9 @@ func TestNoKinds(t *testing.T) {
 			m.Kind = kind
 			wrong(t, m)
 			v := values(m)
-			b := field(31, v[31])
+			b := probe.Field(31, v[31])
 			for _, tag := range has[like] {
-				b += field(tag, v[tag])
+				b += probe.Field(tag, v[tag])
 			}
 			refused(t, b)
 		}
@@ -290,7 +267,7 @@ func TestKindsOfOthers(t *testing.T) {
 		for other := range has {
 			x := m
 			x.Kind = other
-			b := field(31, num(uint64(other))) + want(m)[4:]
+			b := probe.Field(31, probe.Num(uint64(other))) + want(m)[4:]
 			if slices.Equal(has[kind], has[other]) {
 				right(t, x)
 			} else {
@@ -303,9 +280,9 @@ func TestKindsOfOthers(t *testing.T) {
 // parts gives the fields of a message, one by one.
 func parts(m api.Krb) []string {
 	v := values(m)
-	all := []string{field(31, v[31])}
+	all := []string{probe.Field(31, v[31])}
 	for _, tag := range has[m.Kind] {
-		all = append(all, field(tag, v[tag]))
+		all = append(all, probe.Field(tag, v[tag]))
 	}
 	return all
 }
@@ -319,7 +296,7 @@ func TestReadFields(t *testing.T) {
 			refused(t, strings.Join(slices.Delete(slices.Clone(fields), i, i+1), ""))
 			refused(t, strings.Join(slices.Insert(slices.Clone(fields), i, fields[i]), ""))
 			for tag := range 256 {
-				empty := field(byte(tag), "")
+				empty := probe.Field(byte(tag), "")
 				refused(t, strings.Join(slices.Insert(slices.Clone(fields), i, empty), ""))
 				other := slices.Clone(fields)
 				other[i] = string([]byte{byte(tag)}) + fields[i][1:]
@@ -334,7 +311,7 @@ func TestReadFields(t *testing.T) {
 			}
 		}
 		for tag := range 256 {
-			refused(t, all+field(byte(tag), ""))
+			refused(t, all+probe.Field(byte(tag), ""))
 		}
 		refused(t, all+all)
 	}
@@ -353,7 +330,7 @@ func TestReadNumbers(t *testing.T) {
 		for i, f := range parts(m) {
 			for _, v := range bad[f[0]] {
 				other := parts(m)
-				other[i] = field(f[0], v)
+				other[i] = probe.Field(f[0], v)
 				refused(t, strings.Join(other, ""))
 			}
 		}
@@ -428,7 +405,7 @@ func TestAnswersAreNew(t *testing.T) {
 		one, _ := krb.Read(data)
 		two, _ := krb.Read(data)
 		probe.Spoil(data)
-		if !same(one, m) {
+		if !probe.SameKrb(one, m) {
 			t.Errorf("the bytes are kept: %+v", one)
 		}
 		probe.Spoil(one.Ticket)
@@ -436,7 +413,7 @@ func TestAnswersAreNew(t *testing.T) {
 			t.Errorf("lists of one message share memory: %q", one.Sealed)
 		}
 		probe.Spoil(one.Sealed)
-		if !same(two, m) {
+		if !probe.SameKrb(two, m) {
 			t.Errorf("lists of two messages share memory: %+v", two)
 		}
 		x := m
@@ -475,7 +452,7 @@ func answers(s string) []any {
 		all = append(all, krb.Check(m), b, e)
 	}
 	m, e := krb.Read(data)
-	behind, e2 := krb.Read(append([]byte(field(31, "\x06")), data...))
+	behind, e2 := krb.Read(append([]byte(probe.Field(31, "\x06")), data...))
 	return append(all, m, e, behind, e2)
 }
 

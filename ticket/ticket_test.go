@@ -17,44 +17,24 @@ import (
 	"gangway/ticket"
 )
 
-const (
-	last    = 1 << 40 // the greatest time
-	sixteen = "abcdefghijklmnop"
-	longest = sixteen + "/" + sixteen + "/" + sixteen + "@" + sixteen
-)
-
-// notNames are texts that are none of a right name.
-var notNames = []string{
-	"", "ann", "@LAND", "ann@", "ann@LAND@x", "ann@LAND ", "ann/@LAND", "a/b/c/d@R", "ann\x00@LAND", sixteen + "q@R", "a@" + sixteen + "q",
-	strings.Repeat("a", 70000) + "@R",
-}
+const last = 1 << 40 // the greatest time
 
 // key gives a key that begins with a byte.
 func key(first byte) api.Key { return api.Key{first, 2, 3, 15: 0x99} }
 
-// field gives the bytes of a field.
-func field(tag byte, value string) string {
-	return string([]byte{tag, byte(len(value) >> 8), byte(len(value))}) + value
-}
-
-// num gives the bytes of a number.
-func num(n uint64) string {
-	return strings.TrimLeft(string(binary.BigEndian.AppendUint64(nil, n)), "\x00")
-}
-
 // wantTicket gives the bytes of a ticket.
 func wantTicket(t api.Ticket) string {
-	return field(1, t.Client) + field(2, t.Server) + field(3, string(t.Key[:])) + field(4, num(uint64(t.Start))) + field(5, num(uint64(t.End))) + field(6, num(uint64(t.Flags)))
+	return probe.Field(1, t.Client) + probe.Field(2, t.Server) + probe.Field(3, string(t.Key[:])) + probe.Field(4, probe.Num(uint64(t.Start))) + probe.Field(5, probe.Num(uint64(t.End))) + probe.Field(6, probe.Num(uint64(t.Flags)))
 }
 
 // wantAuth gives the bytes of an authenticator.
 func wantAuth(a api.Auth) string {
-	return field(11, a.Client) + field(12, num(uint64(a.Time))) + field(13, num(a.Nonce)) + field(14, string(a.Subkey[:]))
+	return probe.Field(11, a.Client) + probe.Field(12, probe.Num(uint64(a.Time))) + probe.Field(13, probe.Num(a.Nonce)) + probe.Field(14, string(a.Subkey[:]))
 }
 
 // wantGrant gives the bytes of a grant.
 func wantGrant(g api.Grant) string {
-	return field(21, g.Server) + field(22, string(g.Key[:])) + field(23, num(g.Nonce)) + field(24, num(uint64(g.Start))) + field(25, num(uint64(g.End))) + field(26, num(uint64(g.Flags)))
+	return probe.Field(21, g.Server) + probe.Field(22, string(g.Key[:])) + probe.Field(23, probe.Num(g.Nonce)) + probe.Field(24, probe.Num(uint64(g.Start))) + probe.Field(25, probe.Num(uint64(g.End))) + probe.Field(26, probe.Num(uint64(g.Flags)))
 }
 
 // show tells of a thing, but not at length.
@@ -80,7 +60,6 @@ var (
 		{math.MinInt64, 0}, {0, math.MaxInt64}, {math.MinInt64, math.MaxInt64}, {0, math.MinInt64}, {math.MaxInt64, math.MinInt64},
 	}
 	wrongFlags = []int{-1, -2, -4, 4, 5, 7, 8, 256, math.MaxInt, math.MinInt}
-	names      = []string{"ann@LAND", "host/s1@LAND", "krbtgt/LAND@x.y", "a@R", "-/./_@+", longest}
 	nonces     = []uint64{0, 1, 255, 256, 65536, 1 << 40, 1<<63 - 1, 1 << 63, math.MaxUint64}
 )
 
@@ -93,11 +72,11 @@ func tickets() kind[api.Ticket] {
 		change(&t)
 		*list = append(*list, t)
 	}
-	for _, n := range names {
+	for _, n := range probe.Names() {
 		add(&k.right, func(t *api.Ticket) { t.Client = n })
 		add(&k.right, func(t *api.Ticket) { t.Server = n })
 	}
-	for _, n := range notNames {
+	for _, n := range probe.NotNames() {
 		add(&k.wrong, func(t *api.Ticket) { t.Client = n })
 		add(&k.wrong, func(t *api.Ticket) { t.Server = n })
 	}
@@ -122,10 +101,10 @@ func tickets() kind[api.Ticket] {
 // auths gives what is right, and what isn't, of authenticators.
 func auths() kind[api.Auth] {
 	k := kind[api.Auth]{write: ticket.WriteAuth, read: ticket.ReadAuth, want: wantAuth}
-	for _, n := range names {
+	for _, n := range probe.Names() {
 		k.right = append(k.right, api.Auth{Client: n, Time: 100, Nonce: 7, Subkey: key(4)})
 	}
-	for _, n := range notNames {
+	for _, n := range probe.NotNames() {
 		k.wrong = append(k.wrong, api.Auth{Client: n, Time: 100, Nonce: 7, Subkey: key(4)})
 	}
 	for _, time := range []int64{0, 1, 255, 256, last - 1, last} {
@@ -144,10 +123,10 @@ func auths() kind[api.Auth] {
 // grants gives what is right, and what isn't, of grants.
 func grants() kind[api.Grant] {
 	k := kind[api.Grant]{write: ticket.WriteGrant, read: ticket.ReadGrant, want: wantGrant}
-	for _, n := range names {
+	for _, n := range probe.Names() {
 		k.right = append(k.right, api.Grant{Server: n, Key: key(6), Nonce: 7, Start: 100, End: 200})
 	}
-	for _, n := range notNames {
+	for _, n := range probe.NotNames() {
 		k.wrong = append(k.wrong, api.Grant{Server: n, Key: key(6), Nonce: 7, Start: 100, End: 200})
 	}
 	for _, n := range nonces {
@@ -278,13 +257,13 @@ func checkFields[T comparable](t *testing.T, k kind[T], first byte, values []str
 	put := func(values []string) string {
 		all := ""
 		for i, v := range values {
-			all += field(first+byte(i), v)
+			all += probe.Field(first+byte(i), v)
 		}
 		return all
 	}
 	var fields []string
 	for i, v := range values {
-		fields = append(fields, field(first+byte(i), v))
+		fields = append(fields, probe.Field(first+byte(i), v))
 	}
 	if _, e := k.read([]byte(put(values))); e != api.OK {
 		t.Fatalf("%q: %v", values, e)
@@ -292,7 +271,7 @@ func checkFields[T comparable](t *testing.T, k kind[T], first byte, values []str
 	for i := range fields {
 		refused(t, k, strings.Join(slices.Delete(slices.Clone(fields), i, i+1), ""))
 		refused(t, k, strings.Join(slices.Insert(slices.Clone(fields), i, fields[i]), ""))
-		refused(t, k, strings.Join(slices.Insert(slices.Clone(fields), i, field(99, "")), ""))
+		refused(t, k, strings.Join(slices.Insert(slices.Clone(fields), i, probe.Field(99, "")), ""))
 		for n := range i {
 			turned := slices.Clone(fields)
 			turned[n], turned[i] = turned[i], turned[n]
@@ -300,7 +279,7 @@ func checkFields[T comparable](t *testing.T, k kind[T], first byte, values []str
 		}
 		for _, tag := range []byte{first - 1, first + byte(i) + 1, first + byte(len(fields)), 31, 255} {
 			other := slices.Clone(fields)
-			other[i] = field(tag, values[i])
+			other[i] = probe.Field(tag, values[i])
 			refused(t, k, strings.Join(other, ""))
 		}
 		for _, v := range wrong[i] {
@@ -309,7 +288,7 @@ func checkFields[T comparable](t *testing.T, k kind[T], first byte, values []str
 			refused(t, k, put(other))
 		}
 	}
-	refused(t, k, strings.Join(fields, "")+field(99, ""))
+	refused(t, k, strings.Join(fields, "")+probe.Field(99, ""))
 	refused(t, k, strings.Join(fields, "")+"\x00")
 }
 
@@ -324,12 +303,13 @@ var (
 // TestReadFields: P7.2, fields that aren't the right ones.
 func TestReadFields(t *testing.T) {
 	k := strings.Repeat("k", 16)
+	notNames := probe.NotNames()[:13]
 	checkFields(t, tickets(), 1, []string{"ann@LAND", "host/s1@LAND", k, "\x64", "\xc8", "\x01"},
-		map[int][]string{0: notNames[:11], 1: notNames[:11], 2: wrongKeys, 3: append([]string{"\xc9"}, wrongBig...), 4: append([]string{"", "\x63"}, wrongBig...), 5: wrongFlag})
+		map[int][]string{0: notNames, 1: notNames, 2: wrongKeys, 3: append([]string{"\xc9"}, wrongBig...), 4: append([]string{"", "\x63"}, wrongBig...), 5: wrongFlag})
 	checkFields(t, auths(), 11, []string{"ann@LAND", "\x64", "\x05", k},
-		map[int][]string{0: notNames[:11], 1: wrongBig, 2: wrongNums, 3: wrongKeys})
+		map[int][]string{0: notNames, 1: wrongBig, 2: wrongNums, 3: wrongKeys})
 	checkFields(t, grants(), 21, []string{"host/s1@LAND", k, "\x05", "\x64", "\xc8", "\x01"},
-		map[int][]string{0: notNames[:11], 1: wrongKeys, 2: wrongNums, 3: append([]string{"\xc9"}, wrongBig...), 4: append([]string{"", "\x63"}, wrongBig...), 5: wrongFlag})
+		map[int][]string{0: notNames, 1: wrongKeys, 2: wrongNums, 3: append([]string{"\xc9"}, wrongBig...), 4: append([]string{"", "\x63"}, wrongBig...), 5: wrongFlag})
 }
 
 // TestReadOthers: P7.2, none is read as one of the other two.

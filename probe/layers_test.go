@@ -1,0 +1,120 @@
+package probe_test
+
+import (
+	"errors"
+	"fmt"
+	"strings"
+	"testing"
+
+	"gangway/api"
+	"gangway/name"
+	"gangway/probe"
+	"gangway/seal"
+	"gangway/tlv"
+)
+
+// TestNames: those that are right are, the others aren't, and all but the last one fit a field.
+func TestNames(t *testing.T) {
+	for _, n := range probe.Names() {
+		if _, e := name.Parse(n); e != api.OK {
+			t.Errorf("%q: %v", n, e)
+		}
+	}
+	list := probe.NotNames()
+	for i, n := range list {
+		if _, e := name.Parse(n); e != api.ErrName {
+			t.Errorf("%.80q: %v", n, e)
+		}
+		if (len(n) > 65535) != (i == len(list)-1) {
+			t.Errorf("%d bytes", len(n))
+		}
+	}
+}
+
+// TestField: fields and numbers are those of layer 1.
+func TestField(t *testing.T) {
+	for _, n := range []uint64{0, 1, 255, 256, 1 << 40, 1 << 63, 1<<64 - 1} {
+		if got := probe.Num(n); got != string(tlv.Num(n)) {
+			t.Errorf("%d: %q", n, got)
+		}
+	}
+	for _, value := range []string{"", "hi", strings.Repeat("x", 256), strings.Repeat("y", 65535)} {
+		want, e := tlv.Join([]api.Field{{Tag: 255, Value: []byte(value)}})
+		if got := probe.Field(255, value); e != api.OK || got != string(want) {
+			t.Errorf("%.80q, %v", got, e)
+		}
+	}
+}
+
+// TestSame: messages and tickets that differ in any field aren't one; a nil list is one without elements.
+func TestSame(t *testing.T) {
+	m := api.Krb{Kind: 1, Client: "a", Server: "b", Nonce: 2, End: 3, Flags: 1, Ticket: []byte("t"), Sealed: []byte("s"), Code: 4}
+	for i, other := range []api.Krb{
+		{}, {Kind: 2, Client: "a", Server: "b", Nonce: 2, End: 3, Flags: 1, Ticket: []byte("t"), Sealed: []byte("s"), Code: 4},
+		{Kind: 1, Client: "x", Server: "b", Nonce: 2, End: 3, Flags: 1, Ticket: []byte("t"), Sealed: []byte("s"), Code: 4},
+		{Kind: 1, Client: "a", Server: "x", Nonce: 2, End: 3, Flags: 1, Ticket: []byte("t"), Sealed: []byte("s"), Code: 4},
+		{Kind: 1, Client: "a", Server: "b", Nonce: 9, End: 3, Flags: 1, Ticket: []byte("t"), Sealed: []byte("s"), Code: 4},
+		{Kind: 1, Client: "a", Server: "b", Nonce: 2, End: 9, Flags: 1, Ticket: []byte("t"), Sealed: []byte("s"), Code: 4},
+		{Kind: 1, Client: "a", Server: "b", Nonce: 2, End: 3, Flags: 0, Ticket: []byte("t"), Sealed: []byte("s"), Code: 4},
+		{Kind: 1, Client: "a", Server: "b", Nonce: 2, End: 3, Flags: 1, Ticket: []byte("x"), Sealed: []byte("s"), Code: 4},
+		{Kind: 1, Client: "a", Server: "b", Nonce: 2, End: 3, Flags: 1, Ticket: []byte("t"), Code: 4},
+		{Kind: 1, Client: "a", Server: "b", Nonce: 2, End: 3, Flags: 1, Ticket: []byte("t"), Sealed: []byte("s"), Code: 5},
+	} {
+		if probe.SameKrb(m, other) || probe.SameKrb(other, m) || !probe.SameKrb(other, other) {
+			t.Errorf("%d: %+v", i, other)
+		}
+	}
+	if !probe.SameKrb(api.Krb{Kind: 6, Sealed: []byte{}}, api.Krb{Kind: 6, Ticket: []byte{}}) {
+		t.Error("a nil list is another one")
+	}
+	c := api.Cred{Client: "a", Ticket: []byte("t"), Grant: api.Grant{Server: "b"}}
+	for _, other := range []api.Cred{{}, {Client: "x", Ticket: []byte("t"), Grant: c.Grant}, {Client: "a", Ticket: []byte("x"), Grant: c.Grant}, {Client: "a", Ticket: []byte("t")}} {
+		if probe.SameCred(c, other) || probe.SameCred(other, c) || !probe.SameCred(other, other) {
+			t.Errorf("%+v", other)
+		}
+	}
+	if !probe.SameCred(api.Cred{Ticket: []byte{}}, api.Cred{}) {
+		t.Error("a nil list is another one")
+	}
+}
+
+// TestIsFault: just a pointer to a fault of this place and this number is one.
+func TestIsFault(t *testing.T) {
+	right := &api.Fault{At: "ap", Why: api.ErrSeal}
+	if !probe.IsFault(right, "ap", api.ErrSeal) {
+		t.Error("the right one")
+	}
+	for _, err := range []error{
+		nil, api.ErrSeal, errors.New("ap"), fmt.Errorf("%w", right), &api.Fault{At: "as", Why: api.ErrSeal}, &api.Fault{At: "ap", Why: api.ErrForm}, &api.Fault{At: "ap"},
+		&api.Fault{At: "ap", Why: right}, &api.Fault{At: "ap", Why: fmt.Errorf("%w", api.ErrSeal)},
+	} {
+		if probe.IsFault(err, "ap", api.ErrSeal) {
+			t.Errorf("%#v", err)
+		}
+	}
+}
+
+// TestAlike: sealers that have drawn or sealed something else are told from each other.
+func TestAlike(t *testing.T) {
+	for _, symbols := range []bool{true, false} {
+		s, twin := seal.New(symbols, api.Key{1}), seal.New(symbols, api.Key{1})
+		for range 2 {
+			if !probe.Alike(s, twin) {
+				t.Error("both have done the same")
+			}
+		}
+		s.Fresh()
+		if probe.Alike(s, twin) {
+			t.Error("one has drawn more")
+		}
+		twin.Fresh()
+		s.Seal(api.Key{1}, 2, nil)
+		if probe.Alike(s, twin) {
+			t.Error("one has sealed more")
+		}
+		twin.Seal(api.Key{2}, 2, nil)
+		if probe.Alike(s, twin) == symbols {
+			t.Error("by symbols they have sealed something else, by sums as much")
+		}
+	}
+}

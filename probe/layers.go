@@ -54,6 +54,11 @@ func SameCred(a, b api.Cred) bool {
 	return a.Client == b.Client && bytes.Equal(a.Ticket, b.Ticket) && a.Grant == b.Grant
 }
 
+// SameFrames tells whether two lists are of the same frames; nil and empty are one.
+func SameFrames(a, b []api.Frame) bool {
+	return slices.EqualFunc(a, b, func(x, y api.Frame) bool { return x.Channel == y.Channel && bytes.Equal(x.Body, y.Body) })
+}
+
 // IsFault tells whether an error is just a number at a place, and is found by what looks for either.
 func IsFault(err error, at string, why api.Errno) bool {
 	var f *api.Fault

@@ -78,6 +78,22 @@ func TestSame(t *testing.T) {
 	}
 }
 
+// TestSameFrames: lists that differ in any frame, in how many there are, or in their order aren't one; a nil list is one without elements.
+func TestSameFrames(t *testing.T) {
+	a, b := api.Frame{Channel: 1, Body: []byte("a")}, api.Frame{Channel: 2, Body: []byte("b")}
+	list := []api.Frame{a, b}
+	for _, other := range [][]api.Frame{
+		nil, {a}, {b}, {b, a}, {a, b, b}, {a, b, {}}, {a, {Channel: 1, Body: []byte("b")}}, {a, {Channel: 2, Body: []byte("c")}}, {a, {Channel: 2}}, {{}, b},
+	} {
+		if probe.SameFrames(list, other) || probe.SameFrames(other, list) || !probe.SameFrames(other, other) {
+			t.Errorf("%+v", other)
+		}
+	}
+	if !probe.SameFrames(nil, []api.Frame{}) || !probe.SameFrames([]api.Frame{{Body: []byte{}}}, []api.Frame{{}}) {
+		t.Error("a nil list is another one")
+	}
+}
+
 // TestIsFault: just a pointer to a fault of this place and this number is one.
 func TestIsFault(t *testing.T) {
 	right := &api.Fault{At: "ap", Why: api.ErrSeal}

@@ -1,4 +1,4 @@
-// Package probe has what the tests of several layers share: texts to try, memory to write over, and what is asked of messages, errors and sealers. No layer calls it.
+// Package probe has what the tests of several layers share: texts to try, memory to write over, and what is asked of messages, frames, errors and sealers. No layer calls it.
 package probe
 
 import "iter"

@@ -126,62 +126,43 @@ func (w *twin) looks(t *testing.T, m *mux.Mux) {
 	}
 }
 
-// dice gives numbers in no order.
-type dice struct {
-	bytes []byte
-	next  int
-}
-
-// roll gives a number below n, which is at most 65536.
-func (d *dice) roll(n int) int {
-	a, b := d.bytes[d.next%len(d.bytes)], d.bytes[(d.next+1)%len(d.bytes)]
-	d.next += 2
-	return (int(a)<<8 | int(b)) % n
-}
-
-// text gives a text of so many bytes.
-func (d *dice) text(n int) string {
-	d.next++
-	return string(probe.Bytes(uint64(d.next), n))
-}
-
-// frame gives a frame for a side, right or wrong: at the edge of what may come, or a bit beyond it.
-func (d *dice) frame(w *twin) api.Frame {
-	channel := d.roll(4)
+// nextFrame gives a frame for a side, right or wrong: at the edge of what may come, or a bit beyond it.
+func nextFrame(d *probe.Dice, w *twin) api.Frame {
+	channel := d.Roll(4)
 	l := w[channel]
-	switch d.roll(20) {
+	switch d.Roll(20) {
 	case 0:
 		return end(channel)
 	case 1:
-		return text(4, string([]byte{byte(d.roll(4)), byte(d.roll(6)), 0, byte(d.roll(2))}))
+		return text(4, string([]byte{byte(d.Roll(4)), byte(d.Roll(6)), 0, byte(d.Roll(2))}))
 	case 2:
-		return text(d.roll(9)-2, d.text(d.roll(6)))
+		return text(d.Roll(9)-2, d.Text(d.Roll(6)))
 	case 3:
-		return text(channel, d.text(1024+l.said-len(l.came)+d.roll(2)))
+		return text(channel, d.Text(1024+l.said-len(l.came)+d.Roll(2)))
 	case 4:
-		return credit(channel, l.sent-l.granted+d.roll(2))
+		return credit(channel, l.sent-l.granted+d.Roll(2))
 	case 5, 6, 7, 8, 9:
-		return credit(channel, d.roll(max(1, l.sent-l.granted+20)))
+		return credit(channel, d.Roll(max(1, l.sent-l.granted+20)))
 	}
-	return text(channel, d.text(d.roll(513)))
+	return text(channel, d.Text(d.Roll(513)))
 }
 
 // TestLongRun: P18.1 to P18.4, many calls in no order, right and wrong ones, held against all that went.
 func TestLongRun(t *testing.T) {
 	met := map[[2]int]int{} // by the call and its error
 	for seed := range uint64(150) {
-		m, w, d := mux.New(), &twin{}, &dice{bytes: probe.Bytes(seed, 4001)}
+		m, w, d := mux.New(), &twin{}, probe.NewDice(seed)
 		for range 400 {
 			var e, want api.Errno
-			kind := d.roll(10)
-			switch channel := d.roll(4); kind {
+			kind := d.Roll(10)
+			switch channel := d.Roll(4); kind {
 			case 0, 1:
-				kind, channel = 1, d.roll(24)%6-1
-				data := d.text(d.roll(1500))
+				kind, channel = 1, d.Roll(24)%6-1
+				data := d.Text(d.Roll(1500))
 				e, want = m.Write(channel, []byte(data)), w.write(channel, data)
 			case 2:
-				if d.roll(12) == 0 {
-					channel = d.roll(6) - 1
+				if d.Roll(12) == 0 {
+					channel = d.Roll(6) - 1
 					e, want = m.Close(channel), w.close(channel)
 				}
 			case 3, 4:
@@ -189,11 +170,11 @@ func TestLongRun(t *testing.T) {
 					t.Fatalf("%v, not %v", told(got), told(want))
 				}
 			case 5, 6:
-				channel, most := d.roll(24)%6-1, d.roll(900)-20
+				channel, most := d.Roll(24)%6-1, d.Roll(900)-20
 				reads(t, m, channel, most, w.read(channel, most))
 			default:
 				kind = 7
-				f := d.frame(w)
+				f := nextFrame(d, w)
 				e, want = m.Take(f), w.take(f)
 			}
 			if e != want {
@@ -265,25 +246,25 @@ func (h *host) reads(t *testing.T, other *host, channel, most int) {
 }
 
 // does does something, in no order.
-func (h *host) does(t *testing.T, other *host, d *dice) {
+func (h *host) does(t *testing.T, other *host, d *probe.Dice) {
 	t.Helper()
-	channel := d.roll(4)
-	switch d.roll(12) {
+	channel := d.Roll(4)
+	switch d.Roll(12) {
 	case 0, 1, 2:
-		data := d.text(d.roll(2000))
+		data := d.Text(d.Roll(2000))
 		if h.m.Write(channel, []byte(data)) == api.OK {
 			h.wrote[channel] += data
 		}
 	case 3, 4, 5:
 		h.says(t)
 	case 6, 7:
-		h.reads(t, other, channel, 1+d.roll(700))
+		h.reads(t, other, channel, 1+d.Roll(700))
 	case 8:
-		if d.roll(10) == 0 && h.m.Close(channel) == api.OK {
+		if d.Roll(10) == 0 && h.m.Close(channel) == api.OK {
 			h.closed[channel] = true
 		}
 	default:
-		h.hears(t, other, 1+d.roll(1200))
+		h.hears(t, other, 1+d.Roll(1200))
 	}
 }
 
@@ -313,7 +294,7 @@ func ends(t *testing.T, one, two *host) {
 func TestBothSides(t *testing.T) {
 	read, closed := 0, 0
 	for seed := range uint64(150) {
-		one, two, d := newHost(), newHost(), &dice{bytes: probe.Bytes(seed+1000, 4001)}
+		one, two, d := newHost(), newHost(), probe.NewDice(seed+1000)
 		for range 3 {
 			for range 200 {
 				one.does(t, two, d)

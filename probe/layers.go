@@ -59,6 +59,13 @@ func SameFrames(a, b []api.Frame) bool {
 	return slices.EqualFunc(a, b, func(x, y api.Frame) bool { return x.Channel == y.Channel && bytes.Equal(x.Body, y.Body) })
 }
 
+// SameNodes tells whether two lists are of the same nodes; nil and empty are one.
+func SameNodes(a, b []api.Node) bool {
+	return slices.EqualFunc(a, b, func(x, y api.Node) bool {
+		return x.Path == y.Path && x.Dir == y.Dir && x.Owner == y.Owner && x.Mode == y.Mode && bytes.Equal(x.Data, y.Data)
+	})
+}
+
 // IsFault tells whether an error is just a number at a place, and is found by what looks for either.
 func IsFault(err error, at string, why api.Errno) bool {
 	var f *api.Fault

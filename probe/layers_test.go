@@ -94,6 +94,24 @@ func TestSameFrames(t *testing.T) {
 	}
 }
 
+// TestSameNodes: lists that differ in any field of a node, in how many there are, or in their order aren't one; a nil list is one without elements.
+func TestSameNodes(t *testing.T) {
+	a, b := api.Node{Path: "/a", Owner: "ann", Mode: 61, Data: []byte("x")}, api.Node{Path: "/b", Dir: true}
+	list := []api.Node{a, b}
+	for _, other := range [][]api.Node{
+		nil, {a}, {b}, {b, a}, {a, b, b}, {a, b, {}}, {a, {Path: "/c", Dir: true}}, {a, {Path: "/b"}}, {a, {Path: "/b", Dir: true, Owner: "ann"}},
+		{a, {Path: "/b", Dir: true, Mode: 1}}, {a, {Path: "/b", Dir: true, Data: []byte("x")}}, {{Path: "/a", Owner: "ann", Mode: 61, Data: []byte("y")}, b},
+		{{Path: "/a", Owner: "ann", Mode: 61}, b},
+	} {
+		if probe.SameNodes(list, other) || probe.SameNodes(other, list) || !probe.SameNodes(other, other) {
+			t.Errorf("%+v", other)
+		}
+	}
+	if !probe.SameNodes(nil, []api.Node{}) || !probe.SameNodes([]api.Node{{Data: []byte{}}}, []api.Node{{}}) {
+		t.Error("a nil list is another one")
+	}
+}
+
 // TestIsFault: just a pointer to a fault of this place and this number is one.
 func TestIsFault(t *testing.T) {
 	right := &api.Fault{At: "ap", Why: api.ErrSeal}

@@ -1,4 +1,4 @@
-// Package probe has what the tests of several layers share: texts to try, memory to write over, and what is asked of messages, frames, errors and sealers. No layer calls it.
+// Package probe has what the tests of several layers share: texts to try, dice, memory to write over, and what is asked of messages, frames, nodes, errors and sealers. No layer calls it.
 package probe
 
 import "iter"
@@ -47,10 +47,33 @@ func Spoil(b []byte) {
 func Bytes(seed uint64, n int) []byte {
 	b := make([]byte, n)
 	for i := range b {
-		seed = seed*6364136223846793005 + 1442695040888963407
+		seed = next(seed)
 		b[i] = byte(seed >> 56)
 	}
 	return b
+}
+
+// next gives the number behind one; those of the greatest weight of its bits show no order.
+func next(n uint64) uint64 { return n*6364136223846793005 + 1442695040888963407 }
+
+// Dice give numbers and texts in no order to be seen, the same ones for the same seed.
+type Dice struct {
+	state uint64
+}
+
+// NewDice gives the dice of a seed.
+func NewDice(seed uint64) *Dice { return &Dice{state: seed} }
+
+// Roll gives a number from 0 on, below n, which is above 0.
+func (d *Dice) Roll(n int) int {
+	d.state = next(d.state)
+	return int((d.state >> 33) % uint64(n))
+}
+
+// Text gives a text of n bytes.
+func (d *Dice) Text(n int) string {
+	d.state = next(d.state)
+	return string(Bytes(d.state, n))
 }
 
 // Parting gives the first of the texts to which answers tells something else in a second run than in the first; false, if there is none.

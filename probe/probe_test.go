@@ -58,6 +58,34 @@ func TestBytes(t *testing.T) {
 	}
 }
 
+// TestDice: numbers below what is asked for, each of them about as often, and texts that are as long; the same ones for a seed, others for another.
+func TestDice(t *testing.T) {
+	for _, n := range []int{1, 2, 7, 64, 1000} {
+		a, b, other := probe.NewDice(uint64(n)), probe.NewDice(uint64(n)), probe.NewDice(uint64(n+1))
+		met, alike := make([]int, n), 0
+		for range 100 * n {
+			r := a.Roll(n)
+			if r < 0 || r >= n || r != b.Roll(n) {
+				t.Fatalf("%d of %d", r, n)
+			}
+			if r == other.Roll(n) {
+				alike++
+			}
+			met[r]++
+		}
+		if slices.Min(met) < 50 || slices.Max(met) > 150 {
+			t.Errorf("of %d one was met %d times, and one %d times", n, slices.Min(met), slices.Max(met))
+		}
+		if n > 1 && alike > 75*n {
+			t.Errorf("of %d two seeds gave the same %d times", n, alike)
+		}
+		text := a.Text(n)
+		if len(text) != n || text != b.Text(n) || n > 2 && (text == other.Text(n) || text == a.Text(n)) {
+			t.Errorf("%q", text)
+		}
+	}
+}
+
 // TestParting: what hangs on its text alone parts nowhere, what counts its calls at once, and what changes later where it does.
 func TestParting(t *testing.T) {
 	texts := probe.Texts("ab", 2)

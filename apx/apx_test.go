@@ -6,7 +6,6 @@ import (
 	"reflect"
 	"strings"
 	"testing"
-	"unsafe"
 
 	"gangway/api"
 	"gangway/apx"
@@ -730,7 +729,7 @@ func TestOthersAnswers(t *testing.T) {
 // spoil writes over texts.
 func spoil(texts ...string) {
 	for _, s := range texts {
-		probe.Spoil(unsafe.Slice(unsafe.StringData(s), len(s)))
+		probe.SpoilText(s)
 	}
 }
 

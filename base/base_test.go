@@ -7,7 +7,6 @@ import (
 	"strconv"
 	"strings"
 	"testing"
-	"unsafe"
 
 	"gangway/api"
 	"gangway/base"
@@ -292,7 +291,7 @@ func TestAnswersAreNew(t *testing.T) {
 
 // TestTextsAreNotKept: rule 5, an entry's name may be written over behind the call, and so may that of an answer.
 func TestTextsAreNotKept(t *testing.T) {
-	spoil := func(name string) { probe.Spoil(unsafe.Slice(unsafe.StringData(name), len(name))) }
+	spoil := func(name string) { probe.SpoilText(name) }
 	b := base.New()
 	for range 2 { // the second one comes in place of the first
 		e := ann()

@@ -7,7 +7,6 @@ import (
 	"strconv"
 	"strings"
 	"testing"
-	"unsafe"
 
 	"gangway/api"
 	"gangway/cache"
@@ -342,7 +341,7 @@ func TestApart(t *testing.T) {
 func spoil(x api.Cred) {
 	probe.Spoil(x.Ticket)
 	for _, text := range []string{x.Client, x.Grant.Server} {
-		probe.Spoil(unsafe.Slice(unsafe.StringData(text), len(text)))
+		probe.SpoilText(text)
 	}
 }
 
@@ -377,7 +376,7 @@ func TestAnswersAreNew(t *testing.T) {
 	}
 	one, two := c.Servers(), c.Servers()
 	for _, server := range one {
-		probe.Spoil(unsafe.Slice(unsafe.StringData(server), len(server)))
+		probe.SpoilText(server)
 	}
 	room := one[:cap(one)]
 	for i := range room {

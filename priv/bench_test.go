@@ -5,7 +5,6 @@ import (
 	"math"
 	"slices"
 	"testing"
-	"unsafe"
 
 	"gangway/api"
 	"gangway/probe"
@@ -80,7 +79,7 @@ func texts(lists [][]byte) []string {
 // spoil writes over texts.
 func spoil(texts ...string) {
 	for _, s := range texts {
-		probe.Spoil(unsafe.Slice(unsafe.StringData(s), len(s)))
+		probe.SpoilText(s)
 	}
 }
 

@@ -8,6 +8,7 @@ import (
 
 	"gangway/api"
 	"gangway/seal"
+	"gangway/tree"
 )
 
 // Sixteen is a part of a name that is as long as it may be, and Longest a name.
@@ -64,6 +65,41 @@ func SameNodes(a, b []api.Node) bool {
 	return slices.EqualFunc(a, b, func(x, y api.Node) bool {
 		return x.Path == y.Path && x.Dir == y.Dir && x.Owner == y.Owner && x.Mode == y.Mode && bytes.Equal(x.Data, y.Data)
 	})
+}
+
+// SameOutput tells whether two outputs are one; nil and empty are.
+func SameOutput(a, b api.Output) bool {
+	return bytes.Equal(a.Out, b.Out) && bytes.Equal(a.Err, b.Err) && a.Code == b.Code
+}
+
+// Dir gives a directory.
+func Dir(path, owner string, mode int) api.Node {
+	return api.Node{Path: path, Dir: true, Owner: owner, Mode: mode}
+}
+
+// File gives a file.
+func File(path, owner string, mode int, data string) api.Node {
+	return api.Node{Path: path, Owner: owner, Mode: mode, Data: []byte(data)}
+}
+
+// Planted gives a tree that root has made, node by node: the top, and these. It panics, if that can't be.
+func Planted(nodes ...api.Node) *tree.Tree {
+	x := tree.New()
+	for _, n := range nodes {
+		e := api.OK
+		if n.Dir {
+			e = x.Mkdir(api.Root, n.Path, n.Mode)
+		} else {
+			e = x.Write(api.Root, n.Path, n.Data, n.Mode)
+		}
+		if e == api.OK {
+			e = x.Give(api.Root, n.Path, n.Owner)
+		}
+		if e != api.OK {
+			panic(n.Path + ": " + e.Error())
+		}
+	}
+	return x
 }
 
 // IsFault tells whether an error is just a number at a place, and is found by what looks for either.

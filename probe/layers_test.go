@@ -112,6 +112,44 @@ func TestSameNodes(t *testing.T) {
 	}
 }
 
+// TestSameOutput: outputs that differ in any field aren't one; a nil list is one without elements.
+func TestSameOutput(t *testing.T) {
+	a := api.Output{Out: []byte("o"), Err: []byte("e"), Code: 1}
+	for _, other := range []api.Output{{}, {Out: []byte("x"), Err: a.Err, Code: 1}, {Out: a.Out, Err: []byte("x"), Code: 1}, {Out: a.Out, Err: a.Err}, {Out: a.Err, Err: a.Out, Code: 1}} {
+		if probe.SameOutput(a, other) || probe.SameOutput(other, a) || !probe.SameOutput(other, other) {
+			t.Errorf("%+v", other)
+		}
+	}
+	if !probe.SameOutput(api.Output{}, api.Output{Out: []byte{}, Err: []byte{}}) {
+		t.Error("a nil list is another one")
+	}
+}
+
+// TestPlanted: the tree has just these nodes beside the top; what can't stand in a tree isn't planted.
+func TestPlanted(t *testing.T) {
+	top := api.Node{Path: "/", Dir: true, Owner: "root", Mode: 61}
+	if got := probe.Planted().Nodes(); !probe.SameNodes(got, []api.Node{top}) {
+		t.Errorf("%+v", got)
+	}
+	got := probe.Planted(probe.Dir("/d", "ann", 0), probe.File("/d/f", "bob", 7, "data")).Nodes()
+	want := []api.Node{top, {Path: "/d", Dir: true, Owner: "ann"}, {Path: "/d/f", Owner: "bob", Mode: 7, Data: []byte("data")}}
+	if !probe.SameNodes(got, want) {
+		t.Errorf("%+v", got)
+	}
+	for _, wrong := range []api.Node{probe.Dir("d", "ann", 61), probe.Dir("/d", "ann", 64), probe.File("/d/f", "ann", 61, ""), probe.File("/", "ann", 61, "")} {
+		if !panics(func() { probe.Planted(wrong) }) {
+			t.Errorf("%+v is planted", wrong)
+		}
+	}
+}
+
+// panics tells whether a function does.
+func panics(f func()) (does bool) {
+	defer func() { does = recover() != nil }()
+	f()
+	return false
+}
+
 // TestIsFault: just a pointer to a fault of this place and this number is one.
 func TestIsFault(t *testing.T) {
 	right := &api.Fault{At: "ap", Why: api.ErrSeal}

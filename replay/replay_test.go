@@ -7,7 +7,6 @@ import (
 	"strconv"
 	"strings"
 	"testing"
-	"unsafe"
 
 	"gangway/api"
 	"gangway/probe"
@@ -341,7 +340,7 @@ func TestNothingIsKept(t *testing.T) {
 	a, b := auth(5, 1), auth(5, 1)
 	b.Client = strings.Clone(a.Client)
 	sees(t, c, b, 5, api.OK)
-	probe.Spoil(unsafe.Slice(unsafe.StringData(b.Client), len(b.Client)))
+	probe.SpoilText(b.Client)
 	sees(t, c, a, 5, api.ErrReplay)
 	sees(t, c, b, 5, api.OK)
 	counts(t, c, 2)

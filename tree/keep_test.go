@@ -6,15 +6,11 @@ import (
 	"strconv"
 	"strings"
 	"testing"
-	"unsafe"
 
 	"gangway/api"
 	"gangway/probe"
 	"gangway/tree"
 )
-
-// spoilText writes over a text's bytes.
-func spoilText(s string) { probe.Spoil(unsafe.Slice(unsafe.StringData(s), len(s))) }
 
 // mine gives texts that may be written over.
 func mine(texts ...string) []string {
@@ -27,7 +23,7 @@ func mine(texts ...string) []string {
 
 // TestNothingIsKept: P19.6, what is handed in may be written over behind the call.
 func TestNothingIsKept(t *testing.T) {
-	x := planted(t, dir("/p", "ann", 61))
+	x := probe.Planted(dir("/p", "ann", 61))
 	for _, text := range mine("/p/d", "/p/f") {
 		who := strings.Clone("ann")
 		if text == "/p/d" {
@@ -37,8 +33,8 @@ func TestNothingIsKept(t *testing.T) {
 			says(t, "Write", x.Write(who, text, data, 60), api.OK)
 			probe.Spoil(data)
 		}
-		spoilText(text)
-		spoilText(who)
+		probe.SpoilText(text)
+		probe.SpoilText(who)
 	}
 	want := []api.Node{dir("/p", "ann", 61), dir("/p/d", "ann", 61), file("/p/f", "ann", 60, "data")}
 	has(t, x, want...)
@@ -52,7 +48,7 @@ func TestNothingIsKept(t *testing.T) {
 	given := mine("/p/d", "bob", "root")
 	says(t, "Give", x.Give(given[2], given[0], given[1]), api.OK)
 	for _, text := range append(over, given...) {
-		spoilText(text)
+		probe.SpoilText(text)
 	}
 	want[1].Owner, want[2].Data = "bob", []byte("other")
 	has(t, x, want...)
@@ -76,7 +72,7 @@ func TestNothingIsChanged(t *testing.T) {
 // TestAnswersAreNew: P19.6, answers may be written over, their spare room and their texts, too; neither the tree nor other answers have them.
 func TestAnswersAreNew(t *testing.T) {
 	nodes := []api.Node{dir("/d", "ann", 61), file("/d/a", "bob", 61, "some data"), file("/d/b", "ann", 61, "other data"), file("/f", "carl", 61, "f")}
-	x := planted(t, nodes...)
+	x := probe.Planted(nodes...)
 	for range 2 {
 		one, two := x.Nodes(), x.Nodes()
 		spoilNodes(one)
@@ -99,7 +95,7 @@ func TestAnswersAreNew(t *testing.T) {
 		names, _ := x.List("ann", "/d")
 		same, _ := x.List("ann", "/d")
 		for _, name := range names {
-			spoilText(name)
+			probe.SpoilText(name)
 		}
 		room := names[:cap(names)]
 		for i := range room {
@@ -115,8 +111,8 @@ func TestAnswersAreNew(t *testing.T) {
 // spoilNodes writes over a list of nodes, over what they have, and over the spare room of it.
 func spoilNodes(list []api.Node) {
 	for _, n := range list {
-		spoilText(n.Owner)
-		spoilText(n.Path)
+		probe.SpoilText(n.Owner)
+		probe.SpoilText(n.Path)
 		probe.Spoil(n.Data)
 	}
 	list = list[:cap(list)]
@@ -127,7 +123,7 @@ func spoilNodes(list []api.Node) {
 
 // TestDataAreApart: P19.6, what files have isn't what other files have, also where one was read and written into another.
 func TestDataAreApart(t *testing.T) {
-	x := planted(t, file("/f", "ann", 61, "one"))
+	x := probe.Planted(file("/f", "ann", 61, "one"))
 	data, _ := x.Read("ann", "/f")
 	says(t, "Write", x.Write("root", "/g", data, 60), api.OK)
 	says(t, "Write", x.Write("ann", "/f", []byte("two"), 0), api.OK)

@@ -4,6 +4,7 @@ import (
 	"testing"
 
 	"gangway/api"
+	"gangway/probe"
 	"gangway/tree"
 )
 
@@ -50,7 +51,7 @@ func TestRights(t *testing.T) {
 				if mayOf(who, c.bit, mode) {
 					want = api.OK
 				}
-				if e := c.do(guarded(t, mode)); e != want {
+				if e := c.do(guarded(mode)); e != want {
 					t.Errorf("mode %d, %q: %s: %v, not %v", mode, who, c.name, e, want)
 				}
 			}
@@ -59,9 +60,8 @@ func TestRights(t *testing.T) {
 }
 
 // guarded gives a tree in which ann's directory /d and file /f have a mode; all may do all with what is in /d.
-func guarded(t *testing.T, mode int) *tree.Tree {
-	t.Helper()
-	return planted(t, dir("/d", "ann", mode), file("/d/f", "carl", 63, "f"), dir("/d/open", "carl", 63), file("/d/open/f", "carl", 63, "f"), file("/f", "ann", mode, "f"))
+func guarded(mode int) *tree.Tree {
+	return probe.Planted(dir("/d", "ann", mode), file("/d/f", "carl", 63, "f"), dir("/d/open", "carl", 63), file("/d/open/f", "carl", 63, "f"), file("/f", "ann", mode, "f"))
 }
 
 // TestRightsOfParent: P19.4 and P19.5, to make a node, or to take one away, who must enter and write its parent, and need no right of the node.
@@ -72,16 +72,16 @@ func TestRightsOfParent(t *testing.T) {
 			if mayOf(who, 'e', mode) && mayOf(who, 'w', mode) {
 				want = api.OK
 			}
-			says(t, "Mkdir", guarded(t, mode).Mkdir(who, "/d/new", 0), want)
-			says(t, "Write", guarded(t, mode).Write(who, "/d/new", nil, 0), want)
-			says(t, "Remove of a file", guarded(t, mode).Remove(who, "/d/f"), want)
-			x := guarded(t, mode)
+			says(t, "Mkdir", guarded(mode).Mkdir(who, "/d/new", 0), want)
+			says(t, "Write", guarded(mode).Write(who, "/d/new", nil, 0), want)
+			says(t, "Remove of a file", guarded(mode).Remove(who, "/d/f"), want)
+			x := guarded(mode)
 			says(t, "Mkdir by root", x.Mkdir("root", "/d/none", 0), api.OK)
 			says(t, "Remove of a directory", x.Remove(who, "/d/none"), want)
 			if want == api.OK {
 				want = api.ErrNotEmpty
 			}
-			says(t, "Remove of one that has nodes", guarded(t, mode).Remove(who, "/d/open"), want)
+			says(t, "Remove of one that has nodes", guarded(mode).Remove(who, "/d/open"), want)
 		}
 	}
 }
@@ -91,7 +91,7 @@ func TestRightsOfTop(t *testing.T) {
 	for mode := range 64 {
 		for _, who := range []string{"root", "ann", "bob"} {
 			for _, name := range []string{"Mkdir", "Write", "Remove", "Stat", "List"} {
-				x := planted(t, file("/f", "carl", 0, "f"))
+				x := probe.Planted(file("/f", "carl", 0, "f"))
 				says(t, "Chmod", x.Chmod("root", "/", mode), api.OK)
 				says(t, "Give", x.Give("root", "/", "ann"), api.OK)
 				may, e := mayOf(who, 'e', mode) && mayOf(who, 'w', mode), api.OK

@@ -136,7 +136,7 @@ func only(e api.Errno, nothing bool) api.Errno {
 
 // TestComeName: P19.2, each call asks first whether the path is one.
 func TestComeName(t *testing.T) {
-	x := planted(t, dir("/a", "ann", 0), file("/f", "ann", 0, "f"))
+	x := probe.Planted(dir("/a", "ann", 0), file("/f", "ann", 0, "f"))
 	for _, c := range calls() {
 		for _, path := range append(notPaths(), "/f/./a", "/a/../a", "/x//y", "/a/\x00", "/f/"+twelve+"m") {
 			for _, who := range []string{"root", "ann", "bob"} {
@@ -150,14 +150,13 @@ func TestComeName(t *testing.T) {
 }
 
 // deep gives a tree of directories in each other, of ann; in each of them there is a file f, and no g.
-func deep(t *testing.T) (*tree.Tree, []api.Node) {
-	t.Helper()
+func deep() (*tree.Tree, []api.Node) {
 	var nodes []api.Node
 	for path := "/d"; len(path) <= 10; path += "/d" {
 		nodes = append(nodes, dir(path, "ann", 56), file(path+"/f", "ann", 63, "f"))
 	}
 	slices.SortFunc(nodes, func(a, b api.Node) int { return strings.Compare(a.Path, b.Path) })
-	return planted(t, nodes...), nodes
+	return probe.Planted(nodes...), nodes
 }
 
 // TestComeWay: P19.2, what isn't there, is a file, or may not be entered is told by each call, however deep it is, and ahead of all else.
@@ -166,7 +165,7 @@ func TestComeWay(t *testing.T) {
 		at := strings.Repeat("/d", depth)
 		for _, rest := range []string{"/d", "/f", "/g", "/d/d", "/d/f", "/f/f", "/g/g", "/d/d/d/d"} {
 			for _, c := range calls() {
-				x, nodes := deep(t)
+				x, nodes := deep()
 				comes(t, x, c, "ann", at+"/g"+rest, api.ErrNotFound)
 				comes(t, x, c, "root", at+"/g"+rest, api.ErrNotFound)
 				if depth > 0 {
@@ -195,7 +194,7 @@ func comes(t *testing.T, x *tree.Tree, c call, who, path string, want api.Errno)
 func TestComeTopDown(t *testing.T) {
 	nodes := []api.Node{dir("/o", "ann", 61), dir("/o/c", "ann", 48), file("/o/c/f", "ann", 63, "f"), dir("/o/c/o", "ann", 61), file("/o/f", "ann", 63, "f")}
 	for _, c := range calls() {
-		x := planted(t, nodes...)
+		x := probe.Planted(nodes...)
 		for _, way := range []struct {
 			path string
 			want api.Errno
@@ -216,7 +215,7 @@ func TestComeTopDown(t *testing.T) {
 // TestComeTop: P19.2, the top is on the way to all but itself.
 func TestComeTop(t *testing.T) {
 	for _, c := range calls() {
-		x := planted(t, dir("/a", "ann", 63), file("/f", "ann", 63, "f"))
+		x := probe.Planted(dir("/a", "ann", 63), file("/f", "ann", 63, "f"))
 		says(t, "Chmod", x.Chmod("root", "/", 62), api.OK)
 		for _, path := range []string{"/a", "/f", "/x", "/a/b", "/f/x", "/x/y"} {
 			comes(t, x, c, "ann", path, api.ErrMode)
@@ -233,7 +232,7 @@ func TestComeTop(t *testing.T) {
 
 // TestComeNotItself: P19.2, the path itself needn't be entered, nor be a directory, nor be there.
 func TestComeNotItself(t *testing.T) {
-	x := planted(t, dir("/a", "ann", 4), dir("/a/b", "ann", 62), file("/f", "ann", 6, "f"))
+	x := probe.Planted(dir("/a", "ann", 4), dir("/a/b", "ann", 62), file("/f", "ann", 6, "f"))
 	stats(t, x, "bob", dir("/a", "ann", 4))
 	lists(t, x, "bob", "/a", "b")
 	statsNot(t, x, "bob", "/a/b", api.ErrMode)

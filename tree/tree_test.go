@@ -21,33 +21,8 @@ const (
 // notModes are numbers that no node has as its mode.
 var notModes = []int{-1, -2, -61, -64, 64, 65, 100, 127, 128, 256, 511, 1<<16 + 61, 1 << 32, 1<<32 + 61, math.MaxInt, math.MinInt, math.MinInt + 61}
 
-// dir gives a directory.
-func dir(path, owner string, mode int) api.Node {
-	return api.Node{Path: path, Dir: true, Owner: owner, Mode: mode}
-}
-
-// file gives a file.
-func file(path, owner string, mode int, data string) api.Node {
-	return api.Node{Path: path, Owner: owner, Mode: mode, Data: []byte(data)}
-}
-
-// planted gives a tree that root has made, node by node: the top, and these.
-func planted(t *testing.T, nodes ...api.Node) *tree.Tree {
-	t.Helper()
-	x := tree.New()
-	for _, n := range nodes {
-		e := api.OK
-		if n.Dir {
-			e = x.Mkdir("root", n.Path, n.Mode)
-		} else {
-			e = x.Write("root", n.Path, n.Data, n.Mode)
-		}
-		if e != api.OK || x.Give("root", n.Path, n.Owner) != api.OK {
-			t.Fatalf("%+v: %v", n, e)
-		}
-	}
-	return x
-}
+// Short names, as nearly all tests have nodes.
+var dir, file = probe.Dir, probe.File
 
 // has looks whether Nodes tells just these, and the top ahead of them as it was at first.
 func has(t *testing.T, x *tree.Tree, want ...api.Node) {
@@ -139,7 +114,7 @@ func TestExample(t *testing.T) {
 
 // TestNodes: P19.1, the paths rise byte by byte, whatever was made first; bytes below that of / stand ahead of what is in a directory.
 func TestNodes(t *testing.T) {
-	x := planted(t,
+	x := probe.Planted(
 		dir("/b", "", 7), dir("/a", "ann", 0), file("/a/b", "bob", 1, "x"), file("/a0", "root", 63, ""), dir("/a-b", "ann", 2), file("/a.b", "ann", 3, "yz"),
 		dir("/a/c", "bob", 61), file("/Z", "ann", 4, "\x00\xff"), file("/_", "ann", 5, ""), file("/a/c/d", "ann", 6, "."), file("/0", "0", 8, "0"), file("/a-b/c", "", 9, ""))
 	has(t, x,
@@ -152,7 +127,7 @@ func TestStat(t *testing.T) {
 	nodes := []api.Node{
 		dir("/a", "ann", 0), dir("/b", "ann", 61), file("/b/f", "bob", 0, "secret"), file("/b/g", "ann", 63, ""), dir("/b/h", "bob", 0), file("/c", "bob", 36, "c"),
 	}
-	x := planted(t, nodes...)
+	x := probe.Planted(nodes...)
 	for _, who := range []string{"root", "ann", "bob", "", "carl"} {
 		for _, n := range nodes {
 			stats(t, x, who, n)
@@ -168,7 +143,7 @@ func TestStat(t *testing.T) {
 // TestRead: P19.3, all of a file's data; ErrNotFound, ErrIsDir, whatever the mode is, and then ErrMode.
 func TestRead(t *testing.T) {
 	all := string(probe.Bytes(19, 1000))
-	x := planted(t, dir("/d", "ann", 0), dir("/e", "ann", 63), file("/f", "ann", 32, "ab"), file("/g", "ann", 4, all), file("/h", "ann", 31, "h"), file("/i", "root", 0, "i"))
+	x := probe.Planted(dir("/d", "ann", 0), dir("/e", "ann", 63), file("/f", "ann", 32, "ab"), file("/g", "ann", 4, all), file("/h", "ann", 31, "h"), file("/i", "root", 0, "i"))
 	reads(t, x, "ann", "/f", "ab", api.OK)
 	reads(t, x, "root", "/f", "ab", api.OK)
 	reads(t, x, "bob", "/f", "", api.ErrMode)
@@ -186,7 +161,7 @@ func TestRead(t *testing.T) {
 
 // TestList: P19.3, the names of just the nodes whose parent it is, rising; ErrNotFound, ErrNotDir, whatever the mode is, and then ErrMode.
 func TestList(t *testing.T) {
-	x := planted(t,
+	x := probe.Planted(
 		dir("/b", "ann", 61), dir("/a", "ann", 61), file("/a/z", "ann", 0, ""), dir("/a/b", "ann", 56), file("/a/b/c", "ann", 0, ""), dir("/a-b", "ann", 0), file("/a-b/x", "ann", 63, "x"),
 		dir("/a/b/d", "ann", 61), file("/a/b-", "ann", 1, ""), file("/a/B", "ann", 1, ""), file("/a/b0", "ann", 1, ""), file("/f", "ann", 63, "f"), file("/g", "ann", 0, "g"), dir("/r", "root", 0))
 	for _, who := range []string{"root", "ann", "bob", ""} {
@@ -215,7 +190,7 @@ func TestList(t *testing.T) {
 // TestMkdir: P19.4, a directory of who, with each mode, of each length of path.
 func TestMkdir(t *testing.T) {
 	for mode := range 64 {
-		x := planted(t, dir("/p", "ann", 15))
+		x := probe.Planted(dir("/p", "ann", 15))
 		says(t, "Mkdir by root", x.Mkdir("root", "/d", mode), api.OK)
 		says(t, "Mkdir by ann", x.Mkdir("ann", "/p/d", mode), api.ErrMode)
 		says(t, "Mkdir by bob", x.Mkdir("bob", "/p/d", mode), api.OK)
@@ -262,7 +237,7 @@ func full(t *testing.T) (*tree.Tree, []api.Node) {
 	for n := range 59 {
 		nodes = append(nodes, dir("/x"+strconv.Itoa(10+n), "root", 61))
 	}
-	x := planted(t, nodes...)
+	x := probe.Planted(nodes...)
 	has(t, x, nodes...)
 	return x, nodes
 }
@@ -270,7 +245,7 @@ func full(t *testing.T) (*tree.Tree, []api.Node) {
 // TestWriteNew: P19.4, a file of who, with each mode, and of any bytes, up to 1000.
 func TestWriteNew(t *testing.T) {
 	for mode := range 64 {
-		x := planted(t, dir("/p", "ann", 58))
+		x := probe.Planted(dir("/p", "ann", 58))
 		data := string(probe.Bytes(uint64(mode), mode*15))
 		says(t, "Write by root", x.Write("root", "/f", []byte(data), mode), api.OK)
 		says(t, "Write by bob", x.Write("bob", "/p/f", []byte(data), mode), api.ErrMode)
@@ -288,7 +263,7 @@ func TestWriteNew(t *testing.T) {
 
 // TestWriteOver: P19.4, a file that is there has these data alone; its owner and its mode stay.
 func TestWriteOver(t *testing.T) {
-	x := planted(t, file("/f", "ann", 18, "first"), dir("/p", "bob", 1), file("/p/g", "bob", 2, ""))
+	x := probe.Planted(file("/f", "ann", 18, "first"), dir("/p", "bob", 1), file("/p/g", "bob", 2, ""))
 	for _, who := range []string{"root", "ann", "bob", ""} {
 		for _, data := range []string{"", "x", "longer than that", strings.Repeat("1000 bytes", 100), "short"} {
 			says(t, "Write of /f by "+who, x.Write(who, "/f", []byte(data), 61), api.OK)
@@ -369,7 +344,7 @@ func TestRemove(t *testing.T) {
 		{"root", "/b-c", api.ErrNotEmpty}, {"root", "/c", api.ErrNotEmpty}, {"root", "/d", api.ErrNotEmpty}, {"ann", "/b-c", api.ErrMode}, {"bob", "/c", api.ErrMode},
 		{"root", "/", api.ErrArg}, {"ann", "/", api.ErrArg}, {"", "/", api.ErrArg}, {"root", "/x", api.ErrNotFound}, {"ann", "/x", api.ErrNotFound}, {"ann", "/c/x", api.ErrNotFound},
 	} {
-		x := planted(t, nodes...)
+		x := probe.Planted(nodes...)
 		says(t, c.who+" at "+c.path, x.Remove(c.who, c.path), c.want)
 		if c.want != api.OK {
 			has(t, x, nodes...)
@@ -383,7 +358,7 @@ func TestRemove(t *testing.T) {
 
 // TestRemoveAll: P19.5, a directory goes as soon as all that was in it is gone; what is made there anew is new.
 func TestRemoveAll(t *testing.T) {
-	x := planted(t, dir("/a", "ann", 61), dir("/a/b", "ann", 5), file("/a/b/c", "ann", 5, "old"), file("/a/d", "ann", 60, ""))
+	x := probe.Planted(dir("/a", "ann", 61), dir("/a/b", "ann", 5), file("/a/b/c", "ann", 5, "old"), file("/a/d", "ann", 60, ""))
 	for _, path := range []string{"/a/b/c", "/a/b", "/a/d", "/a"} {
 		for at := path[:strings.LastIndex(path, "/")]; at != ""; at = at[:strings.LastIndex(at, "/")] {
 			says(t, at, x.Remove("root", at), api.ErrNotEmpty)
@@ -400,7 +375,7 @@ func TestRemoveAll(t *testing.T) {
 // TestChmod: P19.5, each mode, by root and the owner alone, whatever the mode was; ErrArg, ErrNotFound and ErrMode, in this order.
 func TestChmod(t *testing.T) {
 	f, d, r := file("/f", "ann", 0, "f"), dir("/d", "ann", 0), file("/r", "root", 63, "r")
-	x := planted(t, f, d, r)
+	x := probe.Planted(f, d, r)
 	for mode := range 64 {
 		for i, who := range []string{"root", "ann"} {
 			f.Mode, d.Mode = (mode+i*9)%64, (mode*7+i*5)%64
@@ -433,7 +408,7 @@ func TestChmod(t *testing.T) {
 
 // TestGive: P19.5, by root alone, to any text; the mode stays, and the new owner is the owner.
 func TestGive(t *testing.T) {
-	x := planted(t, dir("/d", "ann", 56), file("/f", "ann", 32, "f"))
+	x := probe.Planted(dir("/d", "ann", 56), file("/f", "ann", 32, "f"))
 	for _, owner := range []string{"", "bob", "root", "\x00", strings.Repeat("long", 1000), "/", "ann@LAND", "bob"} {
 		says(t, "Give of /f", x.Give("root", "/f", owner), api.OK)
 		says(t, "Give of /d", x.Give("root", "/d", owner), api.OK)

@@ -82,6 +82,18 @@ func (d *Dice) Text(n int) string {
 	return string(Bytes(d.state, n))
 }
 
+// Cut gives a text in pieces of many lengths, some of them empty.
+func (d *Dice) Cut(text string) []string {
+	var pieces []string
+	for text != "" {
+		most := []int{2, 8, 100, 2000}[d.Roll(4)]
+		n := min(d.Roll(most), len(text))
+		pieces = append(pieces, text[:n])
+		text = text[n:]
+	}
+	return pieces
+}
+
 // Parting gives the first of the texts to which answers tells something else in a second run than in the first; false, if there is none.
 func Parting[A any](texts iter.Seq[string], answers func(string) A, same func(a, b any) bool) (string, bool) {
 	var first []A

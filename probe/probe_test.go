@@ -97,6 +97,35 @@ func TestDice(t *testing.T) {
 	}
 }
 
+// TestCut: the pieces are the text; some are empty, some short, some long.
+func TestCut(t *testing.T) {
+	d, again := probe.NewDice(1), probe.NewDice(1)
+	if pieces := d.Cut(""); len(pieces) != 0 || len(again.Cut("")) != 0 {
+		t.Errorf("%q", pieces)
+	}
+	var met [3]int
+	for n := range 300 {
+		text := probe.NewDice(uint64(n)).Text(n * 10)
+		pieces := d.Cut(text)
+		if strings.Join(pieces, "") != text || !slices.Equal(pieces, again.Cut(text)) {
+			t.Errorf("%d bytes: %q", len(text), pieces)
+		}
+		for _, piece := range pieces {
+			switch {
+			case piece == "":
+				met[0]++
+			case len(piece) < 100:
+				met[1]++
+			default:
+				met[2]++
+			}
+		}
+	}
+	if slices.Min(met[:]) < 100 {
+		t.Errorf("met %v", met)
+	}
+}
+
 // TestParting: what hangs on its text alone parts nowhere, what counts its calls at once, and what changes later where it does.
 func TestParting(t *testing.T) {
 	texts := probe.Texts("ab", 2)

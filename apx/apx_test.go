@@ -729,7 +729,7 @@ func TestOthersAnswers(t *testing.T) {
 // spoil writes over texts.
 func spoil(texts ...string) {
 	for _, s := range texts {
-		probe.SpoilText(s)
+		spoilText(s)
 	}
 }
 

@@ -291,20 +291,19 @@ func TestAnswersAreNew(t *testing.T) {
 
 // TestTextsAreNotKept: rule 5, an entry's name may be written over behind the call, and so may that of an answer.
 func TestTextsAreNotKept(t *testing.T) {
-	spoil := func(name string) { probe.SpoilText(name) }
 	b := base.New()
 	for range 2 { // the second one comes in place of the first
 		e := ann()
 		e.Name = strings.Clone(e.Name)
 		must(t, b, e)
-		spoil(e.Name)
+		spoilText(e.Name)
 		knows(t, b, ann())
 		has(t, b, ann())
 	}
 	got, _ := b.Get("ann@LAND")
-	spoil(got.Name)
+	spoilText(got.Name)
 	knows(t, b, ann())
-	spoil(b.List()[0].Name)
+	spoilText(b.List()[0].Name)
 	knows(t, b, ann())
 	has(t, b, ann())
 }

@@ -341,7 +341,7 @@ func TestApart(t *testing.T) {
 func spoil(x api.Cred) {
 	probe.Spoil(x.Ticket)
 	for _, text := range []string{x.Client, x.Grant.Server} {
-		probe.SpoilText(text)
+		spoilText(text)
 	}
 }
 
@@ -376,7 +376,7 @@ func TestAnswersAreNew(t *testing.T) {
 	}
 	one, two := c.Servers(), c.Servers()
 	for _, server := range one {
-		probe.SpoilText(server)
+		spoilText(server)
 	}
 	room := one[:cap(one)]
 	for i := range room {

@@ -271,7 +271,7 @@ func TestNothingIsKept(t *testing.T) {
 			t.Errorf("%q is kept: %q", pattern, text)
 		}
 		if plain {
-			probe.SpoilText(text)
+			spoilText(text)
 		}
 		if again != want {
 			t.Errorf("%q: answers share memory: %q", pattern, again)

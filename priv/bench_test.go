@@ -79,7 +79,7 @@ func texts(lists [][]byte) []string {
 // spoil writes over texts.
 func spoil(texts ...string) {
 	for _, s := range texts {
-		probe.SpoilText(s)
+		spoilText(s)
 	}
 }
 

@@ -1,10 +1,7 @@
 // Package probe has what the tests of several layers share: texts to try, dice, memory to write over, and trees that are planted, and what is asked of messages, frames, nodes, outputs, errors and sealers. No layer calls it.
 package probe
 
-import (
-	"iter"
-	"unsafe"
-)
+import "iter"
 
 // Texts gives all texts of at most most bytes, each of them one of the alphabet's.
 func Texts(alphabet string, most int) iter.Seq[string] {
@@ -45,9 +42,6 @@ func Spoil(b []byte) {
 		b[i] = 0xaa // always the same: turning bits would mend what is met twice
 	}
 }
-
-// SpoilText writes over a text's bytes, which must have been made at run time.
-func SpoilText(s string) { Spoil(unsafe.Slice(unsafe.StringData(s), len(s))) }
 
 // Bytes gives n bytes in no order to be seen, the same ones for the same seed.
 func Bytes(seed uint64, n int) []byte {

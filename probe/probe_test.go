@@ -39,17 +39,6 @@ func TestSpoil(t *testing.T) {
 	}
 }
 
-// TestSpoilText: the bytes of a text, and those alone, are written over; an empty one has none.
-func TestSpoilText(t *testing.T) {
-	s := strings.Repeat("x", 9)
-	probe.SpoilText(s[2:5])
-	if s != "xx\xaa\xaa\xaaxxxx" {
-		t.Errorf("%q", s)
-	}
-	probe.SpoilText("")
-	probe.SpoilText(s[:0])
-}
-
 // TestBytes: as many as are asked for, the same ones for a seed, others for another, and each byte among them.
 func TestBytes(t *testing.T) {
 	for _, n := range []int{0, 1, 100} {

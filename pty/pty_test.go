@@ -219,7 +219,7 @@ func TestAnswersAreNew(t *testing.T) {
 		more, others := p.Feed([]byte("\x08g\rhi")) // a text of one byte is one of the run time's own
 		now, again := p.Line(), p.Line()
 		for _, text := range append(lines, line, now) {
-			probe.SpoilText(text)
+			spoilText(text)
 		}
 		probe.Spoil(shown)
 		room := lines[:cap(lines)]

@@ -340,7 +340,7 @@ func TestNothingIsKept(t *testing.T) {
 	a, b := auth(5, 1), auth(5, 1)
 	b.Client = strings.Clone(a.Client)
 	sees(t, c, b, 5, api.OK)
-	probe.SpoilText(b.Client)
+	spoilText(b.Client)
 	sees(t, c, a, 5, api.ErrReplay)
 	sees(t, c, b, 5, api.OK)
 	counts(t, c, 2)

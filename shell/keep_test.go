@@ -21,8 +21,8 @@ func TestNothingIsKept(t *testing.T) {
 		who, mine := strings.Clone("ann"), strings.Clone(line)
 		got := s.Run(who, mine)
 		kept := api.Output{Out: slices.Clone(got.Out), Err: slices.Clone(got.Err), Code: got.Code}
-		probe.SpoilText(who)
-		probe.SpoilText(mine)
+		spoilText(who)
+		spoilText(mine)
 		if !probe.SameOutput(got, kept) {
 			t.Errorf("%q: what was put out has changed", line)
 		}
@@ -75,8 +75,8 @@ func TestAnswersAreNew(t *testing.T) {
 // spoilLog writes over a log, over its texts and over its spare room.
 func spoilLog(list []api.Ran) {
 	for _, r := range list {
-		probe.SpoilText(r.Who)
-		probe.SpoilText(r.Line)
+		spoilText(r.Who)
+		spoilText(r.Line)
 	}
 	list = list[:cap(list)]
 	for i := range list {
@@ -89,7 +89,7 @@ func TestWordsAreNew(t *testing.T) {
 	line := strings.Clone(" one  two three ")
 	one, two := shell.Words(line), shell.Words(line)
 	for _, word := range one {
-		probe.SpoilText(word)
+		spoilText(word)
 	}
 	room := one[:cap(one)]
 	for i := range room {
@@ -98,7 +98,7 @@ func TestWordsAreNew(t *testing.T) {
 	if line != " one  two three " || !slices.Equal(two, []string{"one", "two", "three"}) {
 		t.Errorf("%q: %q", line, two)
 	}
-	probe.SpoilText(line)
+	spoilText(line)
 	if !slices.Equal(two, []string{"one", "two", "three"}) {
 		t.Errorf("%q", two)
 	}

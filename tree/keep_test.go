@@ -33,8 +33,8 @@ func TestNothingIsKept(t *testing.T) {
 			says(t, "Write", x.Write(who, text, data, 60), api.OK)
 			probe.Spoil(data)
 		}
-		probe.SpoilText(text)
-		probe.SpoilText(who)
+		spoilText(text)
+		spoilText(who)
 	}
 	want := []api.Node{dir("/p", "ann", 61), dir("/p/d", "ann", 61), file("/p/f", "ann", 60, "data")}
 	has(t, x, want...)
@@ -48,7 +48,7 @@ func TestNothingIsKept(t *testing.T) {
 	given := mine("/p/d", "bob", "root")
 	says(t, "Give", x.Give(given[2], given[0], given[1]), api.OK)
 	for _, text := range append(over, given...) {
-		probe.SpoilText(text)
+		spoilText(text)
 	}
 	want[1].Owner, want[2].Data = "bob", []byte("other")
 	has(t, x, want...)
@@ -95,7 +95,7 @@ func TestAnswersAreNew(t *testing.T) {
 		names, _ := x.List("ann", "/d")
 		same, _ := x.List("ann", "/d")
 		for _, name := range names {
-			probe.SpoilText(name)
+			spoilText(name)
 		}
 		room := names[:cap(names)]
 		for i := range room {
@@ -111,8 +111,8 @@ func TestAnswersAreNew(t *testing.T) {
 // spoilNodes writes over a list of nodes, over what they have, and over the spare room of it.
 func spoilNodes(list []api.Node) {
 	for _, n := range list {
-		probe.SpoilText(n.Owner)
-		probe.SpoilText(n.Path)
+		spoilText(n.Owner)
+		spoilText(n.Path)
 		probe.Spoil(n.Data)
 	}
 	list = list[:cap(list)]

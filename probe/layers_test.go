@@ -125,6 +125,40 @@ func TestSameOutput(t *testing.T) {
 	}
 }
 
+// TestSameMails: lists that differ in any field of a mail, in how many there are, or in their order aren't one; a nil list is one without elements.
+func TestSameMails(t *testing.T) {
+	a, b := api.Mail{From: 1, To: 2, Data: []byte("a")}, api.Mail{From: 3, To: 4, Data: []byte("b")}
+	list := []api.Mail{a, b}
+	for _, other := range [][]api.Mail{nil, {a}, {b, a}, {a, b, b}, {a, {From: 9, To: 4, Data: b.Data}}, {a, {From: 3, To: 9, Data: b.Data}}, {a, {From: 3, To: 4}}, {a, {From: 3, To: 4, Data: a.Data}}} {
+		if probe.SameMails(list, other) || probe.SameMails(other, list) || !probe.SameMails(other, other) {
+			t.Errorf("%+v", other)
+		}
+	}
+	if !probe.SameMails(nil, []api.Mail{}) || !probe.SameMails([]api.Mail{{Data: []byte{}}}, []api.Mail{{}}) {
+		t.Error("a nil list is another one")
+	}
+}
+
+// TestSpoiledMails: the copies are the mails, but where two of these share memory; nothing is left of the mails.
+func TestSpoiledMails(t *testing.T) {
+	data, all := probe.Roomy("data")
+	list := append(make([]api.Mail, 0, 3), api.Mail{From: 1, To: 2, Data: data}, api.Mail{From: 3, To: 4, Data: []byte("more")})
+	kept := probe.SpoiledMails(list)
+	if !probe.SameMails(kept, []api.Mail{{From: 1, To: 2, Data: []byte("data")}, {From: 3, To: 4, Data: []byte("more")}}) {
+		t.Errorf("%+v", kept)
+	}
+	if string(all) != strings.Repeat("\xaa", len(all)) || list[0].To != 9 || list[:3][2].To != 9 {
+		t.Errorf("%q, %+v", all, list[:3])
+	}
+	shared := []byte("data")
+	if kept := probe.SpoiledMails([]api.Mail{{Data: shared}, {Data: shared}}); string(kept[1].Data) == "data" {
+		t.Errorf("%+v", kept)
+	}
+	if kept := probe.SpoiledMails(nil); len(kept) != 0 {
+		t.Errorf("%+v", kept)
+	}
+}
+
 // TestPlanted: the tree has just these nodes beside the top; what can't stand in a tree isn't planted.
 func TestPlanted(t *testing.T) {
 	top := api.Node{Path: "/", Dir: true, Owner: "root", Mode: 61}

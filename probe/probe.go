@@ -1,7 +1,10 @@
-// Package probe has what the tests of several layers share: texts to try, dice, memory to write over, and trees that are planted, and what is asked of messages, frames, nodes, outputs, errors and sealers. No layer calls it.
+// Package probe has what the tests of several layers share: texts to try, dice, memory to write over, and trees that are planted, and what is asked of messages, mails, frames, nodes, outputs, errors and sealers. No layer calls it.
 package probe
 
-import "iter"
+import (
+	"iter"
+	"strconv"
+)
 
 // Texts gives all texts of at most most bytes, each of them one of the alphabet's.
 func Texts(alphabet string, most int) iter.Seq[string] {
@@ -86,6 +89,22 @@ func (d *Dice) Cut(text string) []string {
 		text = text[n:]
 	}
 	return pieces
+}
+
+// Pick gives any of a list, which isn't empty.
+func Pick[A any](d *Dice, list []A) A { return list[d.Roll(len(list))] }
+
+// Differ tells where two runs that told these texts part; nothing, if they don't.
+func Differ(one, two []string) string {
+	for i := range min(len(one), len(two)) {
+		if one[i] != two[i] {
+			return strconv.Itoa(i) + ": " + one[i] + ", not " + two[i]
+		}
+	}
+	if len(one) != len(two) {
+		return strconv.Itoa(len(one)) + " texts, not " + strconv.Itoa(len(two))
+	}
+	return ""
 }
 
 // Parting gives the first of the texts to which answers tells something else in a second run than in the first; false, if there is none.

@@ -86,6 +86,22 @@ func TestDice(t *testing.T) {
 	}
 }
 
+// TestPick: each one of a list is given, about as often as the others, by one roll.
+func TestPick(t *testing.T) {
+	d, again := probe.NewDice(3), probe.NewDice(3)
+	met := map[string]int{}
+	for range 300 {
+		text := probe.Pick(d, []string{"a", "b", "c"})
+		if text != []string{"a", "b", "c"}[again.Roll(3)] {
+			t.Fatal(text)
+		}
+		met[text]++
+	}
+	if len(met) != 3 || met["a"] < 50 || met["b"] < 50 || met["c"] < 50 {
+		t.Errorf("%v", met)
+	}
+}
+
 // TestCut: the pieces are the text; some are empty, some short, some long.
 func TestCut(t *testing.T) {
 	d, again := probe.NewDice(1), probe.NewDice(1)
@@ -112,6 +128,21 @@ func TestCut(t *testing.T) {
 	}
 	if slices.Min(met[:]) < 100 {
 		t.Errorf("met %v", met)
+	}
+}
+
+// TestDiffer: runs part at the first text that is another one, or that only one of them told.
+func TestDiffer(t *testing.T) {
+	for _, x := range []struct {
+		one, two []string
+		want     string
+	}{
+		{nil, nil, ""}, {nil, []string{}, ""}, {[]string{"a", "b"}, []string{"a", "b"}, ""}, {[]string{"a", "b", "c"}, []string{"a", "x", "y"}, "1: b, not x"}, {[]string{"a"}, []string{"a", "b"}, "1 texts, not 2"},
+		{[]string{"a", "b"}, []string{"a"}, "2 texts, not 1"}, {[]string{""}, nil, "1 texts, not 0"}, {nil, []string{""}, "0 texts, not 1"},
+	} {
+		if got := probe.Differ(x.one, x.two); got != x.want {
+			t.Errorf("%q, %q: %q, not %q", x.one, x.two, got, x.want)
+		}
 	}
 }
 

@@ -10,13 +10,13 @@ import (
 	"testing"
 )
 
-// packages are the folders of the program: package api, the layers, and this one.
-const packages = "api tlv name sha mac aes seal ticket krb base kdc cache replay apx priv glob authz frame mux tree shell pty telopt rcp server client world probe"
+// packages are the folders of the program: package api, the layers, and those beside them.
+const packages = "api tlv name sha mac aes seal ticket krb base kdc cache replay apx priv glob authz frame mux tree shell pty telopt rcp server client world link probe"
 
 // library is what ../shared/LANGUAGE.md lists.
 const library = "bytes cmp container/heap errors iter maps math math/bits slices sort strconv strings sync sync/atomic unicode unicode/utf8"
 
-// TestImports: no file but test files imports what the program's language hasn't, package unsafe above all, or gives the compiler orders; package probe, which stands beside the layers, is no exception.
+// TestImports: no file but test files imports what the program's language hasn't, package unsafe above all, or gives the compiler orders; the packages that stand beside the layers are no exception.
 func TestImports(t *testing.T) {
 	for name := range strings.FieldsSeq(packages) {
 		files, err := filepath.Glob("../" + name + "/*.go")

@@ -1,7 +1,6 @@
 package server_test
 
 import (
-	"bytes"
 	"errors"
 	"slices"
 	"testing"
@@ -312,11 +311,6 @@ func (g *guest) did(t *testing.T, want api.Served) {
 func sameServed(a, b api.Served) bool {
 	return a.Key == b.Key && a.Client == b.Client && a.Nonce == b.Nonce && a.Service == b.Service && a.Account == b.Account &&
 		slices.Equal(a.Lines, b.Lines) && a.Over == b.Over
-}
-
-// sameMails tells whether two lists are of the same mails.
-func sameMails(a, b []api.Mail) bool {
-	return slices.EqualFunc(a, b, func(x, y api.Mail) bool { return x.From == y.From && x.To == y.To && bytes.Equal(x.Data, y.Data) })
 }
 
 // numberOf gives the number of an error; OK, if there is none.

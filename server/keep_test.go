@@ -27,24 +27,10 @@ func (x spoiling) Take(data []byte, from int, now int64) ([]api.Mail, error) {
 		x.t.Fatalf("%q has become %q", data, all)
 	}
 	probe.Spoil(mine)
-	return spoiledMails(list), err
+	return probe.SpoiledMails(list), err
 }
 
-func (x spoiling) Tick(now int64) []api.Mail { return spoiledMails(x.host.Tick(now)) }
-
-// spoiledMails gives copies of mails, each made when those ahead of it have been written over.
-func spoiledMails(list []api.Mail) []api.Mail {
-	var kept []api.Mail
-	for i, mail := range list {
-		kept = append(kept, api.Mail{From: mail.From, To: mail.To, Data: slices.Clone(mail.Data)})
-		probe.Spoil(list[i].Data)
-	}
-	list = list[:cap(list)]
-	for i := range list {
-		list[i] = api.Mail{From: 9, To: 9}
-	}
-	return kept
-}
+func (x spoiling) Tick(now int64) []api.Mail { return probe.SpoiledMails(x.host.Tick(now)) }
 
 func (x spoiling) Served() []api.Served {
 	list, other := x.host.Served(), x.host.Served()
@@ -96,10 +82,8 @@ func TestNothingIsShared(t *testing.T) {
 		a, b := newSite(t, symbols), newSite(t, symbols)
 		a.host = spoiling{t, a.host}
 		one, two := play(t, a, seed, 200), play(t, b, seed, 200)
-		for i := range one.told {
-			if one.told[i] != two.told[i] {
-				t.Fatalf("%d: %d: %s, not %s", seed, i, one.told[i], two.told[i])
-			}
+		if other := probe.Differ(one.told, two.told); other != "" {
+			t.Fatalf("%d: %s", seed, other)
 		}
 	}
 }
@@ -123,8 +107,8 @@ func TestNewKeepsNothing(t *testing.T) {
 func TestRunsAlike(t *testing.T) {
 	for seed := range uint64(20) {
 		one, two := play(t, newSite(t, true), seed, 200), play(t, newSite(t, true), seed, 200)
-		if !slices.Equal(one.told, two.told) {
-			t.Fatalf("%d: two runs part", seed)
+		if other := probe.Differ(one.told, two.told); other != "" {
+			t.Fatalf("%d: %s", seed, other)
 		}
 	}
 }

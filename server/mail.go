@@ -7,27 +7,18 @@ import (
 	"gangway/api"
 	"gangway/apx"
 	"gangway/krb"
+	"gangway/link"
 	"gangway/telopt"
 )
 
-// open gives the message that data are, its bytes, and whether it came in telnet's stream. Where there is none it is of no kind.
-func open(data []byte) (m api.Krb, text []byte, telnet bool) {
-	if len(data) > 0 && data[0] == api.TelIAC {
-		data, telnet = body(data), true
+// open gives the message that data are, and its bytes; of several bodies the first one counts. Where there is none it is of no kind.
+func open(data []byte) (api.Krb, []byte) {
+	bodies := link.Bodies(data, api.AuthIs)
+	if len(bodies) == 0 {
+		return api.Krb{}, nil
 	}
-	m, _ = krb.Read(data)
-	return m, data, telnet
-}
-
-// body gives what the first part of telnet's stream that says who the client is has in it.
-func body(stream []byte) []byte {
-	parts, _ := telopt.NewReader().Feed(stream)
-	for _, p := range parts {
-		if what, _, b, e := telopt.Auth(p); e == api.OK && what == api.AuthIs {
-			return b
-		}
-	}
-	return nil
+	m, _ := krb.Read(bodies[0])
+	return m, bodies[0]
 }
 
 // mails gives messages as mails to a host; as telnet's stream, if what they answer came so.
@@ -81,13 +72,13 @@ func (s *Server) goOn(m api.Krb) ([]api.Krb, int, error) {
 	if e != api.OK { // the session stays: anybody may send what isn't its own
 		return nil, 0, atMail(e)
 	}
-	if e := x.hear(came); e != api.OK {
+	if e := x.Hear(came); e != api.OK {
 		x.drop()
 		return nil, 0, atMail(e)
 	}
 	x.idle = 0
 	x.goOn()
-	return x.messages(append(answers, x.say()...)), x.host, nil
+	return x.Messages(append(answers, x.Say()...)), x.host, nil
 }
 
 // of gives the open session of a Nonce; nil, if there is none.

@@ -161,7 +161,7 @@ func TestTelnetData(t *testing.T) {
 		want[i].Data = []byte(part(t, telopt.Reply(true, want[i].Data)))
 	}
 	said := g.says(t)[0]
-	if got := s.takes(t, []byte(is(t, said)), 99); !sameMails(got, want) || len(got) != 2 || got[0].To != 5 {
+	if got := s.takes(t, []byte(is(t, said)), 99); !probe.SameMails(got, want) || len(got) != 2 || got[0].To != 5 {
 		t.Errorf("%+v, not %+v", got, want)
 	}
 	b, e := krb.Write(api.Krb{Kind: api.KrbData, Nonce: 9})

@@ -41,9 +41,6 @@ func play(t *testing.T, s *site, seed uint64, steps int) *game {
 // tell puts down what was answered.
 func (g *game) tell(answers ...any) { g.told = append(g.told, fmt.Sprintf("%v", answers)) }
 
-// pick gives any of a list.
-func pick[A any](d *probe.Dice, list []A) A { return list[d.Roll(len(list))] }
-
 // step does any one thing.
 func (g *game) step() {
 	switch n := g.dice.Roll(100); {
@@ -78,8 +75,8 @@ func (g *game) step() {
 
 // newGuest lets somebody come; who has come is known by its answer.
 func (g *game) newGuest() {
-	client := pick(g.dice, []string{"ann@LAND", "ann@LAND", "bob@LAND", "carl@LAND", "ann@SEA"})
-	x := g.asks(g.t, client, g.now+pick(g.dice, []int64{-20, 5, 15, 1000, 1000, 1000}), uint64(g.dice.Roll(20)), g.dice.Roll(4))
+	client := probe.Pick(g.dice, []string{"ann@LAND", "ann@LAND", "bob@LAND", "carl@LAND", "ann@SEA"})
+	x := g.asks(g.t, client, g.now+probe.Pick(g.dice, []int64{-20, 5, 15, 1000, 1000, 1000}), uint64(g.dice.Roll(20)), g.dice.Roll(4))
 	asked := x.asked
 	if g.dice.Roll(4) == 0 {
 		asked = []byte(is(g.t, asked))
@@ -105,22 +102,22 @@ func message(data []byte) []byte {
 }
 
 // recent gives a guest that came late: most of the others are over.
-func (g *game) recent() *guest { return pick(g.dice, g.guests[max(0, len(g.guests)-4):]) }
+func (g *game) recent() *guest { return probe.Pick(g.dice, g.guests[max(0, len(g.guests)-4):]) }
 
 // types lets a guest say something: at first, mostly, a line that is right.
 func (g *game) types(x *guest) {
 	account, _, _ := strings.Cut(x.call.Auth.Client, "@")
 	if g.dice.Roll(5) == 0 {
-		account = pick(g.dice, []string{"ann", "bob", "ANN"})
+		account = probe.Pick(g.dice, []string{"ann", "bob", "ANN"})
 	}
-	text := pick(g.dice, []string{
-		line(g.dice) + "\r", line(g.dice) + "\n", line(g.dice) + "\r" + line(g.dice) + "\r\nexit " + pick(g.dice, []string{"3\r", "\r", "300\n"}), "login",
+	text := probe.Pick(g.dice, []string{
+		line(g.dice) + "\r", line(g.dice) + "\n", line(g.dice) + "\r" + line(g.dice) + "\r\nexit " + probe.Pick(g.dice, []string{"3\r", "\r", "300\n"}), "login",
 		"D75 0 d\n", "C70 5 f\n01\n34\x00", "C70 5 f\n01\n34\x00", "E\n", "C61 9 .k5login\nbob@LAND\n\x00", "\x03\x15\x7f", "lost\n", strings.Repeat("cat /big\r", 1+g.dice.Roll(5)),
 	})
 	if !x.began {
 		x.began = true
-		path := "/users/" + account + "/" + pick(g.dice, []string{"x", "y", ".k5login"})
-		text = pick(g.dice, []string{"run " + account + " " + line(g.dice) + "\n", "login " + account + " -\n", "copy " + account + " " + path + pick(g.dice, []string{" plain\n", " modes\n"}), "run ann\n"}) + text
+		path := "/users/" + account + "/" + probe.Pick(g.dice, []string{"x", "y", ".k5login"})
+		text = probe.Pick(g.dice, []string{"run " + account + " " + line(g.dice) + "\n", "login " + account + " -\n", "copy " + account + " " + path + probe.Pick(g.dice, []string{" plain\n", " modes\n"}), "run ann\n"}) + text
 	}
 	if g.dice.Roll(20) == 0 {
 		text = text[:g.dice.Roll(len(text))]
@@ -130,7 +127,7 @@ func (g *game) types(x *guest) {
 		x.mux.Close(g.dice.Roll(5))
 	}
 	if g.dice.Roll(20) == 0 {
-		broken := pick(g.dice, []string{"\x05", "\x01\x03\x00", "\x04\x00\x01x", "\x00\x00\x02hi", "\x04\x00\x04\x01\x00\x03\xff", "\x04\x00\x04\x02\x00\x00\x00\x00\x00\x01x"})
+		broken := probe.Pick(g.dice, []string{"\x05", "\x01\x03\x00", "\x04\x00\x01x", "\x00\x00\x02hi", "\x04\x00\x04\x01\x00\x03\xff", "\x04\x00\x04\x02\x00\x00\x00\x00\x00\x01x"})
 		g.underWay = append(g.underWay, x.sends(g.t, broken)...)
 	}
 	g.underWay = append(g.underWay, x.says(g.t)...)
@@ -138,7 +135,7 @@ func (g *game) types(x *guest) {
 
 // line gives a line for a shell.
 func line(d *probe.Dice) string {
-	return pick(d, []string{
+	return probe.Pick(d, []string{
 		"whoami", "echo some  words", "cat /big", "cat /users/ann/x", "ls /users/ann", "ls /", "put /users/ann/x some", "put /users/bob/y more", "put /users/ann/.k5login ann@LAND", "put /users/ann/.k5login",
 		"rm /users/ann/.k5login", "rm /users/ann/x", "mkdir /users/ann/y", "chmod 7 /users/ann/x", "exit 9", "exit", "what", "", " ", "put /users/ann/.k5login bob@LAND",
 	})
@@ -174,7 +171,7 @@ func (g *game) hear(list []api.Mail) {
 
 // noise lets something come that nobody has said just so.
 func (g *game) noise() {
-	data := slices.Clone(pick(g.dice, g.seen))
+	data := slices.Clone(probe.Pick(g.dice, g.seen))
 	m, e := krb.Read(data)
 	switch g.dice.Roll(7) {
 	case 0:
@@ -203,13 +200,8 @@ func TestTwin(t *testing.T) {
 		symbols := seed%2 == 0
 		a := play(t, newSite(t, symbols, big), seed, 250)
 		b := play(t, newTwinSite(t, symbols, big), seed, 250)
-		for i := range a.told {
-			if a.told[i] != b.told[i] {
-				t.Fatalf("%d: %d: %s, not %s", seed, i, a.told[i], b.told[i])
-			}
-		}
-		if len(a.told) != len(b.told) || !probe.Alike(a.sealer, b.sealer) {
-			t.Fatalf("%d: %d answers, not %d", seed, len(a.told), len(b.told))
+		if other := probe.Differ(a.told, b.told); other != "" || !probe.Alike(a.sealer, b.sealer) {
+			t.Fatalf("%d: %s", seed, other)
 		}
 		for e, n := range a.met {
 			met[e] += n

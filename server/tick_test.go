@@ -45,17 +45,17 @@ func TestTickSends(t *testing.T) {
 			want[i] = append(want[i], list[1:]...)
 		}
 		for range 3 {
-			if got := s.Tick(begun); !sameMails(got, slices.Concat(want...)) || len(want[0]) != 2 {
+			if got := s.Tick(begun); !probe.SameMails(got, slices.Concat(want...)) || len(want[0]) != 2 {
 				t.Errorf("%+v, not %+v", got, want)
 			}
 		}
 		mine := all[1].hears(t, want[1][0].Data)
 		s.takes(t, mine[0], 99)
-		if got := s.Tick(begun); !sameMails(got, slices.Concat(want[0], want[1][1:], want[2])) {
+		if got := s.Tick(begun); !probe.SameMails(got, slices.Concat(want[0], want[1][1:], want[2])) {
 			t.Errorf("%+v, not %+v", got, want)
 		}
 		all[0].goesOn(t, slices.Concat(all[0].hears(t, want[0][0].Data), all[0].hears(t, want[0][1].Data)))
-		if got := s.Tick(begun); !sameMails(got, slices.Concat(want[1][1:], want[2])) {
+		if got := s.Tick(begun); !probe.SameMails(got, slices.Concat(want[1][1:], want[2])) {
 			t.Errorf("%+v, not %+v", got, want)
 		}
 	}
@@ -183,7 +183,7 @@ func TestIdleThoughDone(t *testing.T) {
 	must(t, 0, g.mux.Write(api.ChanIn, []byte("run ann whoami\n")))
 	list := s.takes(t, g.says(t)[0], 99)
 	for range 39 {
-		if got := s.Tick(begun); !sameMails(got, list[1:]) {
+		if got := s.Tick(begun); !probe.SameMails(got, list[1:]) {
 			t.Errorf("%+v", got)
 		}
 	}

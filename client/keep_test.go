@@ -21,14 +21,14 @@ type spoiling struct {
 }
 
 func (x spoiling) Want(w api.Want, to int) api.Errno {
-	mine := copied(w)
+	mine := probe.CopiedWant(w)
 	mine.Lines = append(mine.Lines, "spare")
 	mine.Lines = mine.Lines[:len(w.Lines)]
 	e := x.host.Want(mine, to)
 	if !sameWant(mine, w) || mine.Lines[:len(w.Lines)+1][len(w.Lines)] != "spare" {
 		x.t.Fatalf("%+v has become %+v", w, mine)
 	}
-	spoilWant(mine)
+	eraser.Want(mine)
 	return e
 }
 
@@ -46,62 +46,11 @@ func (x spoiling) Take(data []byte, now int64) ([]api.Mail, error) {
 
 func (x spoiling) Got() []api.Got {
 	list, other := x.host.Got(), x.host.Got()
-	var kept []api.Got
-	for i, g := range list {
-		mine := g
-		mine.Want = copied(g.Want)
-		mine.Out, mine.Err, mine.Sent = slices.Clone(g.Out), slices.Clone(g.Err), copiedLines(g.Sent)
-		spoilWant(g.Want)
-		spoilLines(g.Sent)
-		probe.Spoil(g.Out)
-		probe.Spoil(g.Err)
-		list[i] = api.Got{Nonce: 9}
-		kept = append(kept, mine)
-	}
+	kept := probe.Spoiled(list, probe.CopiedGot, eraser.Got)
 	if !slices.EqualFunc(kept, other, sameGot) {
 		x.t.Errorf("%+v has become %+v", kept, other)
 	}
 	return kept
-}
-
-// copied gives a copy of a want that shares nothing with it.
-func copied(w api.Want) api.Want {
-	w.Server, w.Account, w.Path, w.To = strings.Clone(w.Server), strings.Clone(w.Account), strings.Clone(w.Path), strings.Clone(w.To)
-	w.Lines = copiedLines(w.Lines)
-	return w
-}
-
-// copiedLines gives a copy of lines that shares nothing with them.
-func copiedLines(lines []string) []string {
-	var list []string
-	for _, line := range lines {
-		list = append(list, strings.Clone(line))
-	}
-	return list
-}
-
-// spoilWant writes over all of a want.
-func spoilWant(w api.Want) {
-	spoilAll(w.Server, w.Account, w.Path, w.To)
-	spoilLines(w.Lines)
-}
-
-// spoilLines writes over lines, and over the list of them.
-func spoilLines(lines []string) {
-	spoilAll(lines...)
-	lines = lines[:cap(lines)]
-	for i := range lines {
-		lines[i] = "x"
-	}
-}
-
-// spoilAll writes over texts.
-func spoilAll(texts ...string) {
-	for _, s := range texts {
-		if len(s) > 1 { // those of one byte are the same ones for all of a program
-			spoilText(s)
-		}
-	}
 }
 
 // TestNothingIsShared: P25.7, whoever writes over what was handed in, or answered, a client goes on as one that was left alone.
@@ -124,7 +73,7 @@ func TestNewKeepsNothing(t *testing.T) {
 	s, own, name := newSite(true), ann(), strings.Clone(main)
 	own.Name = strings.Clone(own.Name)
 	s.host = client.New(s.sealer, own, name, s.files, number)
-	spoilAll(own.Name, name)
+	eraser.Texts(own.Name, name)
 	f := s.meets(t, run(blue, "ls"))
 	f.goesOn(t, f.hears(t, s.Tick(s.now)))
 	if f.said != "run ann ls\n" || f.session.Client != "ann@LAND" {

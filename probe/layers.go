@@ -77,20 +77,6 @@ func SameMails(a, b []api.Mail) bool {
 	return slices.EqualFunc(a, b, func(x, y api.Mail) bool { return x.From == y.From && x.To == y.To && bytes.Equal(x.Data, y.Data) })
 }
 
-// SpoiledMails gives copies of mails, each made when those ahead of it have been written over; then all of the list is, too.
-func SpoiledMails(list []api.Mail) []api.Mail {
-	var kept []api.Mail
-	for _, mail := range list {
-		kept = append(kept, api.Mail{From: mail.From, To: mail.To, Data: bytes.Clone(mail.Data)})
-		Spoil(mail.Data)
-	}
-	list = list[:cap(list)]
-	for i := range list {
-		list[i] = api.Mail{From: 9, To: 9}
-	}
-	return kept
-}
-
 // Dir gives a directory.
 func Dir(path, owner string, mode int) api.Node {
 	return api.Node{Path: path, Dir: true, Owner: owner, Mode: mode}

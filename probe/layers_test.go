@@ -139,26 +139,6 @@ func TestSameMails(t *testing.T) {
 	}
 }
 
-// TestSpoiledMails: the copies are the mails, but where two of these share memory; nothing is left of the mails.
-func TestSpoiledMails(t *testing.T) {
-	data, all := probe.Roomy("data")
-	list := append(make([]api.Mail, 0, 3), api.Mail{From: 1, To: 2, Data: data}, api.Mail{From: 3, To: 4, Data: []byte("more")})
-	kept := probe.SpoiledMails(list)
-	if !probe.SameMails(kept, []api.Mail{{From: 1, To: 2, Data: []byte("data")}, {From: 3, To: 4, Data: []byte("more")}}) {
-		t.Errorf("%+v", kept)
-	}
-	if string(all) != strings.Repeat("\xaa", len(all)) || list[0].To != 9 || list[:3][2].To != 9 {
-		t.Errorf("%q, %+v", all, list[:3])
-	}
-	shared := []byte("data")
-	if kept := probe.SpoiledMails([]api.Mail{{Data: shared}, {Data: shared}}); string(kept[1].Data) == "data" {
-		t.Errorf("%+v", kept)
-	}
-	if kept := probe.SpoiledMails(nil); len(kept) != 0 {
-		t.Errorf("%+v", kept)
-	}
-}
-
 // TestPlanted: the tree has just these nodes beside the top; what can't stand in a tree isn't planted.
 func TestPlanted(t *testing.T) {
 	top := api.Node{Path: "/", Dir: true, Owner: "root", Mode: 61}

@@ -1,4 +1,4 @@
-// Package probe has what the tests of several layers share: texts to try, dice, memory to write over, and trees that are planted, and what is asked of messages, mails, frames, nodes, outputs, errors and sealers. No layer calls it.
+// Package probe has what the tests of several layers share: texts to try, dice, memory to write over, copies that share none, and trees that are planted, and what is asked of messages, mails, frames, nodes, outputs, errors and sealers. No layer calls it.
 package probe
 
 import (

@@ -34,21 +34,7 @@ func (x spoiling) Tick(now int64) []api.Mail { return probe.SpoiledMails(x.host.
 
 func (x spoiling) Served() []api.Served {
 	list, other := x.host.Served(), x.host.Served()
-	var kept []api.Served
-	for i, d := range list {
-		copied := d
-		copied.Client, copied.Account, copied.Lines = strings.Clone(d.Client), strings.Clone(d.Account), nil
-		spoilAll(d.Client, d.Account)
-		for _, line := range d.Lines {
-			copied.Lines = append(copied.Lines, strings.Clone(line))
-			spoilAll(line)
-		}
-		for k := range d.Lines[:cap(d.Lines)] {
-			d.Lines[:cap(d.Lines)][k] = "x"
-		}
-		list[i] = api.Served{Nonce: 9}
-		kept = append(kept, copied)
-	}
+	kept := probe.Spoiled(list, probe.CopiedServed, eraser.Served)
 	if !slices.EqualFunc(kept, other, sameServed) {
 		x.t.Errorf("%+v has become %+v", kept, other)
 	}
@@ -56,23 +42,7 @@ func (x spoiling) Served() []api.Served {
 }
 
 func (x spoiling) Log() []api.Ran {
-	list := x.host.Log()
-	var kept []api.Ran
-	for i, r := range list {
-		kept = append(kept, api.Ran{Who: strings.Clone(r.Who), Line: strings.Clone(r.Line), Code: r.Code})
-		spoilAll(r.Who, r.Line)
-		list[i] = api.Ran{Code: 9}
-	}
-	return kept
-}
-
-// spoilAll writes over texts.
-func spoilAll(texts ...string) {
-	for _, s := range texts {
-		if len(s) > 1 { // those of one byte are the same ones for all of a program
-			spoilText(s)
-		}
-	}
+	return probe.Spoiled(x.host.Log(), probe.CopiedRan, eraser.Ran)
 }
 
 // TestNothingIsShared: P24.7, whoever writes over what was handed in, or answered, a server goes on as one that was left alone, and its files are the same.
@@ -95,7 +65,7 @@ func TestNewKeepsNothing(t *testing.T) {
 	s := newSite(t, true)
 	x, e := server.New(s.sealer, own, s.files, rules, begun)
 	s.host = must(t, x, e)
-	spoilAll(own.Name, rules)
+	eraser.Texts(own.Name, rules)
 	for _, client := range []string{"ann@LAND", "carl@LAND"} {
 		g := s.comes(t, client)
 		g.types(t, "run ann whoami\n")
